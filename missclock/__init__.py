@@ -1,0 +1,1 @@
+"""Missclock: a memory whose only clock is its own misses."""

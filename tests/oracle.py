@@ -1,0 +1,100 @@
+"""Plain ways to the same answers, and rows made up alike at each run: for the tests alone."""
+
+import random
+
+
+def lay(row):
+    """The asks of a row, one by one."""
+    asks = []
+    for part in row:
+        if isinstance(part, str):
+            asks.append(part)
+        else:
+            for _ in range(part[1]):
+                asks.extend(lay(part[0]))
+    return asks
+
+
+def in_drawers(asks, drawers):
+    """Point 1 word by word: the truths, the losses ask by ask, and the drawers behind."""
+    chest = [[] for _ in range(drawers)]
+    hits = []
+    gone = []
+    for thing in asks:
+        at = [index for index, drawer in enumerate(chest) if thing in drawer]
+        hits.append(bool(at))
+        if at:
+            chest[at[0]].remove(thing)
+            chest[0].insert(0, thing)
+            gone.append([])
+        else:
+            gone.append(chest.pop())
+            chest.insert(0, [thing])
+    return hits, gone, chest
+
+
+def in_ages(asks, drawers, graces, standing):
+    """Point 12 word by word, by a table of ages: the truths, the losses, the standing."""
+    ages = dict(standing)
+    order = [thing for thing, _ in standing]
+    hits = []
+    gone = []
+    for thing in asks:
+        hits.append(thing in ages)
+        away = []
+        if thing not in ages:
+            for other in order:
+                ages[other] += 1
+            away = [other for other in order if ages[other] >= drawers + graces.get(other, 0)]
+            for other in away:
+                del ages[other]
+        gone.append(away)
+        order = [other for other in order if other in ages and other != thing]
+        if thing in ages or drawers + graces.get(thing, 0) >= 1:
+            ages[thing] = 0
+            order = [thing] + order
+    return hits, gone, [(thing, ages[thing]) for thing in order]
+
+
+def depths_by_clerks(asks, graces, most):
+    """Point 4: the greatest number of drawers, to most, that misses each ask, None of all."""
+    walks = [in_ages(asks, drawers, graces, [])[0] for drawers in range(1, most + 1)]
+    told = []
+    for place in range(len(asks)):
+        missing = [drawers for drawers, hits in enumerate(walks, start=1) if not hits[place]]
+        if missing != list(range(1, len(missing) + 1)):
+            raise AssertionError("a clerk with more drawers misses what one with fewer hits")
+        told.append(None if len(missing) == most else len(missing))
+    return told
+
+
+def some_asks(chance, many, letters):
+    return [chance.choice(letters) for _ in range(many)]
+
+
+def some_graces(chance, letters):
+    return {thing: chance.randint(-3, 3) for thing in letters if chance.random() < 0.5}
+
+
+def some_standing(chance, drawers, graces, letters):
+    """A standing that is let, whether it came of asks or not."""
+    things = [thing for thing in letters if drawers + graces.get(thing, 0) >= 1]
+    aged = []
+    for thing in chance.sample(things, chance.randint(0, len(things))):
+        aged.append((thing, chance.randrange(drawers + graces.get(thing, 0))))
+    return sorted(aged, key=lambda pair: pair[1])
+
+
+def some_row(chance, letters, deep=3):
+    """A row with agains, of lists and of tuples."""
+    parts = []
+    for _ in range(chance.randint(1, 3)):
+        if deep and chance.random() < 0.4:
+            parts.append((some_row(chance, letters, deep - 1), chance.randint(1, 4)))
+        else:
+            parts.append(chance.choice(letters))
+    return tuple(parts) if chance.random() < 0.3 else parts
+
+
+def chance_of(seed):
+    return random.Random(seed)

@@ -1,0 +1,227 @@
+"""Points 2 and 3: what is handed in and told stays apart, and which refusal goes first."""
+
+import copy
+import itertools
+import unittest
+
+from missclock import clerks, depths, rows
+from missclock.errors import (MissError, NoDrawers, NoGraces, NoNumber, NoPlace, NoRow, NoStanding,
+                              NoThing, NoWish, TooMany)
+
+MOST = 10 ** 30
+
+
+class NoSuchNumber(NoPlace):
+    """Stands here for NoPlace of a number that any place may exceed."""
+
+
+# What is wrong in each kind, by its form or by its bounds.
+WRONG = {
+    NoRow: (None, "ab", 3, {"a": 1}, ["A"], [(["a"], 0)], [([], 1)], ["a", ["b"]], [(["a"], True)],
+            {"a"}, object()),
+    NoDrawers: (0, -1, MOST + 1, True, False, None, "3", 2.0, [2], (2,)),
+    NoGraces: (0, False, [], (), "a", {"A": 1}, {"a": None}, {"a": True}, {"a": 1.0}, {3: 1},
+               {"": 1}, {("a",): 1}, {"a": 1, "b": "1"}, [("a", 1)], {"a"}),
+    NoStanding: ((), {}, 0, False, "a", [None], [["a", 0]], [("a", -1)], [("a", True)],
+                 [("b", 0), ("b", 0)], [("b", 1), ("c", 0)], [("b", 10 ** 40)], [("b",)],
+                 [("b", 0, 0)]),
+    NoThing: (None, 3, "", "A", "abcdefghi", ["a"], ("a",), True, b"a"),
+    NoPlace: (None, -1, True, False, 10 ** 40, "0", 0.0, [0], (0,)),
+    NoSuchNumber: (None, -1, True, False, "0", 0.0, [0], (0,), -10 ** 5000),
+    NoNumber: (None, -1, True, False, "0", 0.0, [0], (0,), -10 ** 5000),
+    NoWish: (None, 3, (), (0,), {}, {0: 1}, "0", [True], [False], [-1], [10 ** 40], [0, 0], [1, 0],
+             [None], [0.0], ["0"], [[0]]),
+}
+
+ROW = ["a", "b", (["a", "c"], 2)]
+GRACES = {"a": 1, "b": -1}
+STANDING = [("b", 0), ("a", 1)]
+GREAT = [(["a", "b"], 201)]
+
+# Of each function: what is handed in by place, what by name, and its refusals, the first one ahead,
+# each with where the wrong thing stands: at a place, or behind a name.
+CALLS = {
+    rows.asks_in: ((ROW,), {}, ((NoRow, 0),)),
+    rows.ask_at: ((ROW, 2), {}, ((NoRow, 0), (NoPlace, 1))),
+    rows.things_of: ((ROW,), {}, ((NoRow, 0),)),
+    rows.last_of: ((ROW,), {}, ((NoRow, 0),)),
+    rows.often: ((ROW,), {}, ((NoRow, 0),)),
+    rows.asked_ahead: ((ROW, "a", 2), {}, ((NoRow, 0), (NoThing, 1), (NoPlace, 2))),
+    rows.so_manieth: ((ROW, "a", 1), {}, ((NoRow, 0), (NoThing, 1), (NoSuchNumber, 2))),
+    rows.asked_before: ((ROW, 2), {}, ((NoRow, 0), (NoPlace, 1))),
+    rows.halves: ((ROW, 3), {}, ((NoRow, 0), (NoPlace, 1))),
+    rows.near: ((ROW,), {}, ((NoRow, 0), (TooMany, 0))),
+    clerks.is_standing: ((2, STANDING), {"graces": GRACES}, ((NoDrawers, 0), (NoGraces, "graces"))),
+    clerks.asked: ((2, STANDING, "a"), {"graces": GRACES},
+                   ((NoDrawers, 0), (NoGraces, "graces"), (NoStanding, 1), (NoThing, 2))),
+    clerks.lying: ((2, STANDING), {"graces": GRACES},
+                   ((NoDrawers, 0), (NoGraces, "graces"), (NoStanding, 1))),
+    depths.depths: ((ROW,), {"graces": GRACES}, ((NoRow, 0), (TooMany, 0), (NoGraces, "graces"))),
+    depths.missed_by: ((ROW,), {"graces": GRACES}, ((NoRow, 0), (TooMany, 0), (NoGraces, "graces"))),
+    depths.thinned: ((ROW,), {"graces": GRACES}, ((NoRow, 0), (TooMany, 0), (NoGraces, "graces"))),
+    depths.drawers_for: ((ROW, 3), {"graces": GRACES},
+                         ((NoRow, 0), (TooMany, 0), (NoNumber, 1), (NoGraces, "graces"))),
+    depths.drawers_to_hit: ((ROW, [2, 4]), {"graces": GRACES},
+                            ((NoRow, 0), (TooMany, 0), (NoWish, 1), (NoGraces, "graces"))),
+    depths.nearest_again: ((list("abab"), 1), {"graces": GRACES},
+                           ((NoRow, 0), (TooMany, 0), (NoDrawers, 1), (NoGraces, "graces"))),
+}
+WITH_STANDING = ((NoRow, 0), (NoDrawers, 1), (NoGraces, "graces"), (NoStanding, "standing"), (TooMany, 0))
+WITH_PLACE = WITH_STANDING[:2] + ((NoPlace, 2),) + WITH_STANDING[2:]
+NAMED = {"graces": GRACES, "standing": STANDING}
+for call in (clerks.walk, clerks.misses, clerks.behind, clerks.losses):
+    CALLS[call] = ((ROW, 2), NAMED, WITH_STANDING)
+CALLS[clerks.reason] = ((ROW, 2, 4), NAMED, WITH_PLACE)
+CALLS[clerks.are_misses] = ((ROW, 2, [0, 1, 3]), NAMED, WITH_STANDING)
+
+
+def wrong_of(kind, turn):
+    if kind is TooMany:
+        return GREAT
+    return WRONG[kind][turn % len(WRONG[kind])]
+
+
+def spoilt(call, due, turn):
+    """What is handed in by place and by name, wrong wherever a refusal is due."""
+    handed = list(CALLS[call][0])
+    named = dict(CALLS[call][1])
+    # A row that is no row at all takes the place of one that is only too long.
+    for kind, where in sorted(due, key=lambda one: one[0] is not TooMany):
+        if isinstance(where, int):
+            handed[where] = wrong_of(kind, turn)
+        else:
+            named[where] = wrong_of(kind, turn)
+    return handed, named
+
+
+class TestOrder(unittest.TestCase):
+    def check(self, call, due, turn):
+        handed, named = spoilt(call, due, turn)
+        first, where = due[0]
+        told = NoPlace if first is NoSuchNumber else first
+        with self.assertRaises(MissError) as caught:
+            call(*handed, **named)
+        self.assertIs(type(caught.exception), told, (call.__name__, handed, named))
+        fields = {}
+        if told is TooMany:
+            fields = {"many": 402}
+        elif told in (NoThing, NoPlace):
+            fields = {"thing" if told is NoThing else "place": handed[where]}
+        self.assertEqual(caught.exception.__dict__, fields)
+
+    def test_whatever_is_wrong_at_once(self):
+        for call, (_, _, order) in CALLS.items():
+            for many in range(1, len(order) + 1):
+                for due in itertools.combinations(order, many):
+                    for turn in range(max(len(WRONG.get(kind, "1")) for kind, _ in due)):
+                        self.check(call, due, turn)
+
+    def test_places_of_far_rows_are_refused_ahead(self):
+        for place in (-1, 402, None):
+            self.assertRaises(NoPlace, clerks.reason, GREAT, 2, place)
+            self.assertRaises(NoPlace, clerks.reason, GREAT, 2, place, graces=3, standing=3)
+            self.assertRaises(NoDrawers, clerks.reason, GREAT, 0, place)
+        self.assertRaises(TooMany, clerks.reason, GREAT, 2, 401)
+        self.assertRaises(NoStanding, clerks.reason, GREAT, 2, 401, standing=3)
+
+    def test_standings_hang_on_drawers_and_graces(self):
+        old = [("a", 2)]
+        for call in (clerks.walk, clerks.misses, clerks.behind, clerks.losses):
+            self.assertRaises(NoStanding, call, ROW, 2, standing=old)
+            self.assertRaises(NoStanding, call, ROW, 3, graces={"a": -1}, standing=old)
+            call(ROW, 3, standing=old)
+            call(ROW, 2, graces={"a": 1}, standing=old)
+        self.assertRaises(NoStanding, clerks.lying, 2, old)
+        self.assertRaises(NoStanding, clerks.asked, 2, old, "a")
+
+    def test_four_hundred_asks_are_near(self):
+        near = [(["a", "b"], 200)]
+        for call, (handed, named, order) in CALLS.items():
+            if (TooMany, 0) in order:
+                call(near, *handed[1:], **named)
+                with self.assertRaises(TooMany) as caught:
+                    call(near + ["a"], *handed[1:], **named)
+                self.assertEqual(caught.exception.many, 401)
+
+    def test_what_is_refused_is_kept_as_a_copy(self):
+        worth = [["a"]]
+        for call in (lambda: rows.asked_ahead(ROW, worth, 0), lambda: clerks.asked(2, None, worth)):
+            with self.assertRaises(NoThing) as caught:
+                call()
+            worth[0].append("b")
+            self.assertEqual(caught.exception.thing, [["a"]])
+            worth[0].pop()
+
+
+class TestApart(unittest.TestCase):
+    def test_what_is_handed_in_stays(self):
+        for call, (handed, named, _) in CALLS.items():
+            before = copy.deepcopy((handed, named))
+            call(*handed, **named)
+            self.assertEqual((handed, named), before, call.__name__)
+
+    def test_what_is_refused_stays_too(self):
+        for call, (_, _, order) in CALLS.items():
+            for one in order:
+                for turn in range(9):
+                    handed, named = spoilt(call, [one], turn)
+                    before = copy.deepcopy((handed, named))
+                    self.assertRaises(MissError, call, *handed, **named)
+                    self.assertEqual((handed, named), before)
+
+    def test_told_alike_and_new_each_time(self):
+        for call, (handed, named, _) in CALLS.items():
+            one = call(*handed, **named)
+            kept = copy.deepcopy(one)
+            other = call(*handed, **named)
+            self.assertEqual(one, other)
+            self.spoil(one)
+            self.assertEqual(other, kept, call.__name__)
+            self.assertEqual(call(*handed, **named), kept, call.__name__)
+            before = copy.deepcopy((handed, named))
+            self.spoil(other)
+            self.assertEqual((handed, named), before, call.__name__)
+
+    def spoil(self, told):
+        """Changes each list and dict of what is told, however deep it lies."""
+        if isinstance(told, (list, tuple)):
+            for one in list(told):
+                self.spoil(one)
+        if isinstance(told, list):
+            told.append("spoilt")
+        if isinstance(told, dict):
+            told["spoilt"] = 1
+
+    def test_a_standing_that_stays_as_it_is_is_told_anew(self):
+        standing = [("a", 0), ("b", 1)]
+        told = [clerks.behind([], 2, standing=standing), clerks.asked(2, standing, "a")[1],
+                clerks.lying(2, standing)]
+        for one in told:
+            one.append("spoilt")
+        self.assertEqual(standing, [("a", 0), ("b", 1)])
+
+    def test_kinds(self):
+        kinds = {
+            rows.asks_in: int, rows.ask_at: str, rows.things_of: list, rows.last_of: list,
+            rows.often: dict, rows.asked_ahead: int, rows.asked_before: int, rows.halves: tuple,
+            rows.near: list, clerks.is_standing: bool, clerks.walk: list, clerks.misses: int,
+            clerks.behind: list, clerks.asked: tuple, clerks.losses: list, clerks.lying: list,
+            clerks.reason: tuple, clerks.are_misses: bool, depths.depths: list,
+            depths.missed_by: list, depths.drawers_for: int, depths.drawers_to_hit: int,
+            depths.thinned: list, depths.nearest_again: tuple,
+        }
+        for call, kind in kinds.items():
+            handed, named, _ = CALLS[call]
+            self.assertIs(type(call(*handed, **named)), kind, call.__name__)
+        truths = clerks.walk(ROW, 2)
+        self.assertEqual({type(one) for one in truths}, {bool})
+        for pairs in (clerks.losses(list("abcd"), 1), clerks.lying(2, STANDING),
+                      clerks.behind(ROW, 2), depths.missed_by(ROW)):
+            self.assertEqual({type(one) for one in pairs}, {tuple})
+        self.assertEqual({type(many) for _, many in depths.missed_by(["a"])}, {int})
+        self.assertEqual({type(things) for _, things in clerks.losses(list("abcd"), 1)}, {list})
+        self.assertIs(type(clerks.reason(list("abca"), 1, 3)[1]), list)
+
+
+if __name__ == "__main__":
+    unittest.main()

@@ -1,0 +1,60 @@
+"""The interface: the names, the arguments, and what is handed by place or by name."""
+
+import importlib
+import inspect
+import unittest
+
+# Of each function: what is handed by place, then behind a star what may be left out.
+INTERFACE = {
+    "rows": {
+        "is_thing": "thing", "is_row": "thing", "asks_in": "row", "ask_at": "row place",
+        "things_of": "row", "last_of": "row", "often": "row",
+        "asked_ahead": "row thing place", "so_manieth": "row thing number",
+        "asked_before": "row place", "halves": "row place", "near": "row",
+    },
+    "clerks": {
+        "is_standing": "drawers thing * graces",
+        "walk": "row drawers * graces standing",
+        "misses": "row drawers * graces standing",
+        "behind": "row drawers * graces standing",
+        "asked": "drawers standing thing * graces",
+        "losses": "row drawers * graces standing",
+        "lying": "drawers standing * graces",
+        "reason": "row drawers place * graces standing",
+        "are_misses": "row drawers thing * graces standing",
+    },
+    "depths": {
+        "depths": "row * graces", "missed_by": "row * graces",
+        "drawers_for": "row most * graces", "drawers_to_hit": "row places * graces",
+        "thinned": "row * graces", "nearest_again": "row drawers * graces",
+    },
+}
+
+
+def told_of(function):
+    """The arguments as the table above has them; a default is None or none at all."""
+    words = []
+    for one in inspect.signature(function).parameters.values():
+        if one.kind == one.KEYWORD_ONLY:
+            if "*" not in words:
+                words.append("*")
+            if one.default is not None:
+                return "a default that is not told"
+        elif one.kind != one.POSITIONAL_OR_KEYWORD or one.default is not one.empty:
+            return "an argument that is not told"
+        words.append(one.name)
+    return " ".join(words)
+
+
+class TestInterface(unittest.TestCase):
+    def test_names_and_arguments(self):
+        for module, functions in INTERFACE.items():
+            file = importlib.import_module("missclock." + module)
+            for name, words in functions.items():
+                function = getattr(file, name)
+                self.assertEqual(function.__module__, "missclock." + module)
+                self.assertEqual(told_of(function), words, name)
+
+
+if __name__ == "__main__":
+    unittest.main()
