@@ -19,26 +19,26 @@ def is_standing(drawers, thing, *, graces=None):
 
 def walk(row, drawers, *, graces=None, standing=None):
     """Tell ask by ask whether it is a hit."""
-    hits, _, _ = _heard(row, drawers, graces, standing)
-    return hits
+    asks, known, start = _looked(row, drawers, graces, standing)
+    return heard(asks, drawers, known, start)
 
 
 def misses(row, drawers, *, graces=None, standing=None):
     """Tell how many asks are missed."""
-    hits, _, _ = _heard(row, drawers, graces, standing)
-    return hits.count(False)
+    asks, known, start = _looked(row, drawers, graces, standing)
+    return heard(asks, drawers, known, start).count(False)
 
 
 def behind(row, drawers, *, graces=None, standing=None):
     """Tell the standing behind the row."""
-    _, _, after = _heard(row, drawers, graces, standing)
-    return after
+    asks, known, start = _looked(row, drawers, graces, standing)
+    return left_behind(asks, drawers, known, start)
 
 
 def losses(row, drawers, *, graces=None, standing=None):
     """Tell for each miss that puts something away its place and the things."""
-    _, gone, _ = _heard(row, drawers, graces, standing)
-    return [(place, things) for place, things in enumerate(gone) if things]
+    asks, known, start = _looked(row, drawers, graces, standing)
+    return lost(asks, drawers, known, start)
 
 
 def asked(drawers, standing, thing, *, graces=None):
@@ -65,14 +65,14 @@ def reason(row, drawers, place, *, graces=None, standing=None):
     check_row(row)
     check_drawers(drawers)
     check_place(place, count_asks(row))
-    hits, _, _ = _heard(row, drawers, graces, standing)
-    asks = laid_out(row)
-    limit = limit_of(asks[place], drawers, checked_graces(graces))
+    asks, known, start = _looked(row, drawers, graces, standing)
+    limit = limit_of(asks[place], drawers, known)
     if limit < 1:
         return ("never",)
-    since, age = _last_known(asks, place, standing)
+    since, age = _last_known(asks, place, start)
     if age is None:
         return ("new",)
+    hits = heard(asks, drawers, known, start)
     missed = [at for at in range(since, place) if not hits[at]]
     if hits[place]:
         return ("hit", missed)
@@ -81,8 +81,8 @@ def reason(row, drawers, place, *, graces=None, standing=None):
 
 def are_misses(row, drawers, thing, *, graces=None, standing=None):
     """Tell of anything whether it is the list of the places of the misses."""
-    hits, _, _ = _heard(row, drawers, graces, standing)
-    missed = [place for place, hit in enumerate(hits) if not hit]
+    asks, known, start = _looked(row, drawers, graces, standing)
+    missed = missed_places(heard(asks, drawers, known, start))
     if not isinstance(thing, list) or len(thing) != len(missed):
         return False
     return all([is_whole(one) and one == place for one, place in zip(thing, missed)])
@@ -161,20 +161,102 @@ def step(standing, drawers, graces, thing):
     return False, kept, gone
 
 
-def _heard(row, drawers, graces, standing):
-    """Hear a near row: the truths, what each ask puts away, the standing behind."""
+def hear(asks, table, now, drawers, graces):
+    """Hear asks, one by one, and tell of each whether it is a hit.
+
+    The table has of each thing how many misses there were by its last ask, now is
+    how many there were so far: the difference is the thing's age, and it is there
+    while this is below its limit. The table is brought up to date.
+    """
+    hits = []
+    for thing in asks:
+        hit = thing in table and now - table[thing] < drawers + graces.get(thing, 0)
+        if not hit:
+            now += 1
+        table[thing] = now
+        hits.append(hit)
+    return hits
+
+
+def heard(asks, drawers, graces, standing):
+    """Tell ask by ask, from a standing, whether it is a hit."""
+    return hear(asks, table_of(standing), 0, drawers, graces)
+
+
+def table_of(standing):
+    """Tell a standing as hear's table, of no misses so far."""
+    return {thing: -age for thing, age in standing}
+
+
+def left_behind(asks, drawers, graces, standing):
+    """Tell the standing that asks leave behind."""
+    table = table_of(standing)
+    now = hear(asks, table, 0, drawers, graces).count(False)
+    latest = {thing: True for thing in asks[::-1]}
+    for thing, _ in standing:
+        latest[thing] = True
+    aged = [(thing, now - table[thing]) for thing in latest]
+    return [(thing, age) for thing, age in aged if age < limit_of(thing, drawers, graces)]
+
+
+def lost(asks, drawers, graces, standing):
+    """Tell for each miss that puts something away its place and the things, as they stood."""
+    missed = missed_places(heard(asks, drawers, graces, standing))
+    gone = []
+    for thing, since, place in _stretches(asks, missed, standing):
+        limit = limit_of(thing, drawers, graces)
+        if limit >= 1 and since + limit <= len(missed):
+            gone.append((missed[since + limit - 1], -place, thing))
+    told = {}
+    for at, _, thing in sorted(gone):
+        told.setdefault(at, []).append(thing)
+    return [(at, told[at]) for at in told]
+
+
+def _stretches(asks, missed, standing):
+    """Tell where nothing more was asked of a thing until it was missed, or till the end.
+
+    Of each: the thing, how many misses there were by its last ask ahead, and this
+    ask's place; places below 0 are those of what stood there at first.
+    """
+    last = {thing: (-age, -at) for at, (thing, age) in enumerate(standing, start=1)}
+    now = 0
+    told = []
+    for place, thing in enumerate(asks):
+        if now < len(missed) and missed[now] == place:
+            now += 1
+            if thing in last:
+                told.append((thing, last[thing][0], last[thing][1]))
+        last[thing] = (now, place)
+    return told + [(thing, last[thing][0], last[thing][1]) for thing in last]
+
+
+def missed_places(hits):
+    """Tell the places of the misses, rising."""
+    return [place for place, hit in enumerate(hits) if not hit]
+
+
+def misses_since(asks, hits):
+    """Tell of each ask the misses between its thing's last ask and it, None of a first one."""
+    told = []
+    last = {}
+    now = 0
+    for thing, hit in zip(asks, hits):
+        told.append(now - last[thing] if thing in last else None)
+        if not hit:
+            now += 1
+        last[thing] = now
+    return told
+
+
+def _looked(row, drawers, graces, standing):
+    """Tell a near row's asks, graces and a standing, all of them looked at."""
     check_row(row)
     check_drawers(drawers)
     known = checked_graces(graces)
-    now = checked_standing(standing, drawers, known)
+    start = checked_standing(standing, drawers, known)
     check_near(row)
-    hits = []
-    gone = []
-    for thing in laid_out(row):
-        hit, now, things = step(now, drawers, known, thing)
-        hits.append(hit)
-        gone.append(things)
-    return hits, gone, now
+    return laid_out(row), known, start
 
 
 def _last_known(asks, place, standing):
@@ -182,7 +264,7 @@ def _last_known(asks, place, standing):
     for at in range(place - 1, -1, -1):
         if asks[at] == asks[place]:
             return at + 1, 0
-    for thing, age in standing or []:
+    for thing, age in standing:
         if thing == asks[place]:
             return 0, age
     return 0, None

@@ -184,6 +184,16 @@ def laid_out(row):
     return asks
 
 
+def asked_last(asks):
+    """Tell of each ask the place at which its thing was last asked ahead, or None."""
+    told = []
+    last = {}
+    for place, thing in enumerate(asks):
+        told.append(last.get(thing))
+        last[thing] = place
+    return told
+
+
 def _part_with(row, place):
     """Tell which part a place lies in, and the place within this part.
 

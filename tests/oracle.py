@@ -1,5 +1,6 @@
 """Plain ways to the same answers, and rows made up alike at each run: for the tests alone."""
 
+import itertools
 import random
 
 
@@ -66,6 +67,40 @@ def depths_by_clerks(asks, graces, most):
             raise AssertionError("a clerk with more drawers misses what one with fewer hits")
         told.append(None if len(missing) == most else len(missing))
     return told
+
+
+def depth_by_words(since, grace, most=40):
+    """Point 20 word by word, to most: the depth by the depths of the asks since."""
+    best = 0
+    for d in range(1, most + 1):
+        if len([x for x in since if x is None or x >= d]) >= d + grace:
+            best = d
+    return best
+
+
+def last_ahead(asks, place):
+    """Where the thing at a place was last asked ahead of it, or None."""
+    ahead = [at for at in range(place) if asks[at] == asks[place]]
+    return ahead[-1] if ahead else None
+
+
+def all_rows(most, letters="abc"):
+    """All rows of so many asks, or fewer, of these things."""
+    for many in range(most + 1):
+        for asks in itertools.product(letters, repeat=many):
+            yield list(asks)
+
+
+def all_lists(many):
+    """All rising lists of some of so many places."""
+    for size in range(many + 1):
+        for places in itertools.combinations(range(many), size):
+            yield list(places)
+
+
+def some_names(many):
+    """So many unlike things of two letters."""
+    return [chr(97 + at // 26) + chr(97 + at % 26) for at in range(many)]
 
 
 def some_asks(chance, many, letters):

@@ -4,7 +4,7 @@ import copy
 import itertools
 import unittest
 
-from missclock import clerks, depths, rows
+from missclock import clerks, depths, judge_depths, papers, plain, rows, shelf
 from missclock.errors import (MissError, NoDrawers, NoGraces, NoNumber, NoPlace, NoRow, NoStanding,
                               NoThing, NoWish, TooMany)
 
@@ -13,6 +13,14 @@ MOST = 10 ** 30
 
 class NoSuchNumber(NoPlace):
     """Stands here for NoPlace of a number that any place may exceed."""
+
+
+class NoSuchRoom(NoPlace):
+    """Stands here for NoPlace of a number of places of the plain rule."""
+
+
+# The refusal that each of these stands for.
+STANDS_FOR = {NoSuchNumber: NoPlace, NoSuchRoom: NoPlace}
 
 
 # What is wrong in each kind, by its form or by its bounds.
@@ -28,6 +36,7 @@ WRONG = {
     NoThing: (None, 3, "", "A", "abcdefghi", ["a"], ("a",), True, b"a"),
     NoPlace: (None, -1, True, False, 10 ** 40, "0", 0.0, [0], (0,)),
     NoSuchNumber: (None, -1, True, False, "0", 0.0, [0], (0,), -10 ** 5000),
+    NoSuchRoom: (None, 0, -1, True, False, "1", 1.0, [1], (1,), -10 ** 5000),
     NoNumber: (None, -1, True, False, "0", 0.0, [0], (0,), -10 ** 5000),
     NoWish: (None, 3, (), (0,), {}, {0: 1}, "0", [True], [False], [-1], [10 ** 40], [0, 0], [1, 0],
              [None], [0.0], ["0"], [[0]]),
@@ -65,12 +74,26 @@ CALLS = {
                             ((NoRow, 0), (TooMany, 0), (NoWish, 1), (NoGraces, "graces"))),
     depths.nearest_again: ((list("abab"), 1), {"graces": GRACES},
                            ((NoRow, 0), (TooMany, 0), (NoDrawers, 1), (NoGraces, "graces"))),
+    judge_depths.depth_fault: ((ROW, [None, None, 0, 1]), {"graces": GRACES},
+                               ((NoRow, 0), (TooMany, 0), (NoGraces, "graces"))),
+    shelf.shelf: ((ROW,), {}, ((NoRow, 0), (TooMany, 0))),
+    shelf.marks: ((ROW,), {}, ((NoRow, 0), (TooMany, 0))),
+    shelf.fits: ((ROW, 2), {}, ((NoRow, 0), (TooMany, 0), (NoSuchRoom, 1))),
+    plain.plain_depths: ((ROW,), {}, ((NoRow, 0), (TooMany, 0))),
+    plain.plain_misses: ((ROW, 2), {}, ((NoRow, 0), (TooMany, 0), (NoSuchRoom, 1))),
 }
+for call in (shelf.held, shelf.sizes, shelf.most_held, shelf.stays, plain.spared, plain.like_places):
+    CALLS[call] = ((ROW, 2), {}, ((NoRow, 0), (TooMany, 0), (NoDrawers, 1)))
 WITH_STANDING = ((NoRow, 0), (NoDrawers, 1), (NoGraces, "graces"), (NoStanding, "standing"), (TooMany, 0))
+OF_PLACE = ((NoRow, 0), (TooMany, 0), (NoDrawers, 1), (NoPlace, 2), (NoGraces, "graces"))
 WITH_PLACE = WITH_STANDING[:2] + ((NoPlace, 2),) + WITH_STANDING[2:]
 NAMED = {"graces": GRACES, "standing": STANDING}
 for call in (clerks.walk, clerks.misses, clerks.behind, clerks.losses):
     CALLS[call] = ((ROW, 2), NAMED, WITH_STANDING)
+for call in (judge_depths.misses_shown, judge_depths.hits_shown):
+    CALLS[call] = ((ROW, 1, 4, [2, 4]), {"graces": GRACES}, OF_PLACE)
+CALLS[papers.why_missed] = ((ROW, 1, 3), {"graces": GRACES}, OF_PLACE)
+CALLS[papers.why_hit] = ((ROW, 1, 4), {"graces": GRACES}, OF_PLACE)
 CALLS[clerks.reason] = ((ROW, 2, 4), NAMED, WITH_PLACE)
 CALLS[clerks.are_misses] = ((ROW, 2, [0, 1, 3]), NAMED, WITH_STANDING)
 
@@ -98,7 +121,7 @@ class TestOrder(unittest.TestCase):
     def check(self, call, due, turn):
         handed, named = spoilt(call, due, turn)
         first, where = due[0]
-        told = NoPlace if first is NoSuchNumber else first
+        told = STANDS_FOR.get(first, first)
         with self.assertRaises(MissError) as caught:
             call(*handed, **named)
         self.assertIs(type(caught.exception), told, (call.__name__, handed, named))
@@ -203,20 +226,27 @@ class TestApart(unittest.TestCase):
     def test_kinds(self):
         kinds = {
             rows.asks_in: int, rows.ask_at: str, rows.things_of: list, rows.last_of: list,
-            rows.often: dict, rows.asked_ahead: int, rows.asked_before: int, rows.halves: tuple,
+            rows.often: dict, rows.asked_ahead: int, rows.so_manieth: int, rows.asked_before: int,
+            rows.halves: tuple,
             rows.near: list, clerks.is_standing: bool, clerks.walk: list, clerks.misses: int,
             clerks.behind: list, clerks.asked: tuple, clerks.losses: list, clerks.lying: list,
             clerks.reason: tuple, clerks.are_misses: bool, depths.depths: list,
             depths.missed_by: list, depths.drawers_for: int, depths.drawers_to_hit: int,
             depths.thinned: list, depths.nearest_again: tuple,
+            judge_depths.depth_fault: int, judge_depths.misses_shown: bool,
+            judge_depths.hits_shown: bool, papers.why_missed: list, papers.why_hit: list,
+            shelf.shelf: list, shelf.held: list, shelf.marks: list, shelf.sizes: list,
+            shelf.most_held: int, shelf.stays: list, shelf.fits: int, plain.plain_depths: list,
+            plain.plain_misses: list, plain.spared: list, plain.like_places: int,
         }
+        self.assertEqual(set(kinds), set(CALLS))
         for call, kind in kinds.items():
             handed, named, _ = CALLS[call]
             self.assertIs(type(call(*handed, **named)), kind, call.__name__)
         truths = clerks.walk(ROW, 2)
         self.assertEqual({type(one) for one in truths}, {bool})
         for pairs in (clerks.losses(list("abcd"), 1), clerks.lying(2, STANDING),
-                      clerks.behind(ROW, 2), depths.missed_by(ROW)):
+                      clerks.behind(ROW, 2), depths.missed_by(ROW), shelf.shelf(ROW), shelf.stays(ROW, 1)):
             self.assertEqual({type(one) for one in pairs}, {tuple})
         self.assertEqual({type(many) for _, many in depths.missed_by(["a"])}, {int})
         self.assertEqual({type(things) for _, things in clerks.losses(list("abcd"), 1)}, {list})

@@ -28,6 +28,22 @@ INTERFACE = {
         "drawers_for": "row most * graces", "drawers_to_hit": "row places * graces",
         "thinned": "row * graces", "nearest_again": "row drawers * graces",
     },
+    "judge_depths": {
+        "depth_fault": "row thing * graces",
+        "misses_shown": "row drawers place thing * graces",
+        "hits_shown": "row drawers place thing * graces",
+    },
+    "papers": {
+        "why_missed": "row drawers place * graces", "why_hit": "row drawers place * graces",
+    },
+    "shelf": {
+        "shelf": "row", "held": "row drawers", "marks": "row", "sizes": "row drawers",
+        "most_held": "row drawers", "stays": "row drawers", "fits": "row places",
+    },
+    "plain": {
+        "plain_depths": "row", "plain_misses": "row places", "spared": "row drawers",
+        "like_places": "row drawers",
+    },
 }
 
 
