@@ -4,7 +4,8 @@ import copy
 import itertools
 import unittest
 
-from missclock import clerks, depths, judge_depths, papers, plain, rows, shelf
+from missclock import (clerks, depths, edits, graces, judge_depths, papers, plain, reminders, rows, shelf,
+                       starts)
 from missclock.errors import (MissError, NoDrawers, NoGraces, NoNumber, NoPlace, NoRow, NoStanding,
                               NoThing, NoWish, TooMany)
 
@@ -19,8 +20,29 @@ class NoSuchRoom(NoPlace):
     """Stands here for NoPlace of a number of places of the plain rule."""
 
 
+class NoSuchWish(NoWish):
+    """Stands here for NoWish of a list of things."""
+
+
+class NoSuchStart(NoStanding):
+    """Stands here for NoStanding of a start, where None is none either."""
+
+
+class NoSuchThings(NoThing):
+    """Stands here for NoThing of a list of unlike things, of which one is wrong."""
+
+
+class NoneKinder(NoGraces):
+    """Stands here for NoGraces of graces that are not kinder."""
+
+
+class TooManyTried(TooMany):
+    """Stands here for TooMany of a row of more than forty asks."""
+
+
 # The refusal that each of these stands for.
-STANDS_FOR = {NoSuchNumber: NoPlace, NoSuchRoom: NoPlace}
+STANDS_FOR = {NoSuchNumber: NoPlace, NoSuchRoom: NoPlace, NoSuchWish: NoWish, NoSuchStart: NoStanding,
+              NoSuchThings: NoThing, NoneKinder: NoGraces, TooManyTried: TooMany}
 
 
 # What is wrong in each kind, by its form or by its bounds.
@@ -37,10 +59,15 @@ WRONG = {
     NoPlace: (None, -1, True, False, 10 ** 40, "0", 0.0, [0], (0,)),
     NoSuchNumber: (None, -1, True, False, "0", 0.0, [0], (0,), -10 ** 5000),
     NoSuchRoom: (None, 0, -1, True, False, "1", 1.0, [1], (1,), -10 ** 5000),
+    NoSuchWish: (None, (), ("a",), {}, {"a": 1}, "a", 3, ["z"], ["a", "a"], [None], [["a"]], [True]),
+    NoSuchThings: (["a", "A"], ["A"], ["a", "A", "a", 3], ["A", None]),
+    NoneKinder: ({"a": 0}, {"a": 1, "b": -2}, {"c": -1, "a": 2}, 3, None),
     NoNumber: (None, -1, True, False, "0", 0.0, [0], (0,), -10 ** 5000),
     NoWish: (None, 3, (), (0,), {}, {0: 1}, "0", [True], [False], [-1], [10 ** 40], [0, 0], [1, 0],
              [None], [0.0], ["0"], [[0]]),
 }
+
+WRONG[NoSuchStart] = (None,) + WRONG[NoStanding]
 
 ROW = ["a", "b", (["a", "c"], 2)]
 GRACES = {"a": 1, "b": -1}
@@ -84,6 +111,49 @@ CALLS = {
 }
 for call in (shelf.held, shelf.sizes, shelf.most_held, shelf.stays, plain.spared, plain.like_places):
     CALLS[call] = ((ROW, 2), {}, ((NoRow, 0), (TooMany, 0), (NoDrawers, 1)))
+OF_WISH = ((NoRow, 0), (TooMany, 0), (NoDrawers, 1), (NoSuchWish, 2), (NoGraces, "graces"))
+for call in (graces.least_graces, graces.least_paper):
+    CALLS[call] = ((ROW, 2, ["c", "a"]), {"graces": GRACES}, OF_WISH)
+CALLS[graces.is_least_paper] = ((ROW, 2, ["c", "a"], ([0], [])), {"graces": GRACES}, OF_WISH)
+CALLS[graces.is_kinder] = ((GRACES, {"a": 2}), {}, ((NoGraces, 0), (NoGraces, 1)))
+CALLS[graces.helped] = ((ROW, 1, GRACES, {"a": 1}), {}, (
+    (NoRow, 0), (TooMany, 0), (NoDrawers, 1), (NoGraces, 2), (NoneKinder, 3)))
+CALLS[graces.like_drawers] = ((ROW, 1, {"a": 1, "b": 1, "c": 1}), {}, (
+    (NoRow, 0), (TooMany, 0), (NoDrawers, 1), (NoGraces, 2)))
+CALLS[graces.by_grace] = ((ROW, 1, "a"), {"graces": GRACES}, (
+    (NoRow, 0), (TooMany, 0), (NoDrawers, 1), (NoThing, 2), (NoGraces, "graces")))
+CALLS[graces.graces_of] = ((ROW, 1, [0, 1, 3]), {}, (
+    (NoRow, 0), (TooMany, 0), (NoDrawers, 1), (NoWish, 2)))
+CALLS[graces.graces_barred] = ((ROW, 1, [0, 3]), {}, ((NoRow, 0), (TooMany, 0), (NoDrawers, 1), (NoWish, 2)))
+
+OTHER = [("c", 1), ("a", 2)]
+OF_STARTS = ((NoDrawers, 0), (NoGraces, "graces"), (NoSuchStart, 1), (NoSuchStart, 2))
+for call in (starts.is_younger, starts.younger_of, starts.elder_of, starts.how_many_between):
+    CALLS[call] = ((2, STANDING[1:], [("a", 2)]), {"graces": GRACES}, OF_STARTS)
+ROW_OF_STARTS = ((NoRow, 0), (NoDrawers, 1), (NoGraces, "graces"), (NoSuchStart, 2), (NoSuchStart, 3), (TooMany, 0))
+for call in (starts.unlike_asks, starts.met, starts.more_missed):
+    CALLS[call] = ((ROW, 2, STANDING, OTHER), {"graces": GRACES}, ROW_OF_STARTS)
+CALLS[starts.row_to] = ((2, STANDING), {}, ((NoDrawers, 0), (NoSuchStart, 1)))
+CALLS[starts.comes_to] = ((ROW, 2, STANDING), {}, (
+    (NoRow, 0), (NoDrawers, 1), (NoSuchStart, 2), (TooMany, 0)))
+CALLS[starts.all_met] = ((ROW, 2, ["a", "b"]), {"graces": GRACES}, (
+    (NoRow, 0), (NoDrawers, 1), (NoSuchThings, 2), (NoGraces, "graces"), (TooMany, 0)))
+
+for call in (edits.put_in, edits.put_away):
+    CALLS[call] = ((ROW, 2, "c"), {"graces": GRACES}, (
+        (NoRow, 0), (TooMany, 0), (NoPlace, 1), (NoThing, 2), (NoGraces, "graces")))
+for call in (edits.left_out, edits.exchanged):
+    CALLS[call] = ((ROW, 3), {"graces": GRACES}, ((NoRow, 0), (TooMany, 0), (NoPlace, 1), (NoGraces, "graces")))
+CALLS[edits.best_put_in] = ((ROW, 2), {"graces": GRACES}, (
+    (NoRow, 0), (TooManyTried, 0), (NoDrawers, 1), (NoGraces, "graces")))
+
+OF_REMINDERS = ((NoRow, 0), (NoDrawers, 1), (NoSuchWish, 2), (NoGraces, "graces"), (TooMany, 0))
+for call in (reminders.kept_walk, reminders.gaps, reminders.needs, reminders.fewest, reminders.lazy,
+             reminders.wanted):
+    CALLS[call] = ((list("abcda"), 2, ["b", "a"]), {"graces": {"a": 1, "b": -1}}, OF_REMINDERS)
+CALLS[reminders.drawers_for_few] = ((ROW, ["b", "a"], 1), {"graces": GRACES}, (
+    (NoRow, 0), (NoSuchWish, 1), (NoNumber, 2), (NoGraces, "graces"), (TooMany, 0)))
+
 WITH_STANDING = ((NoRow, 0), (NoDrawers, 1), (NoGraces, "graces"), (NoStanding, "standing"), (TooMany, 0))
 OF_PLACE = ((NoRow, 0), (TooMany, 0), (NoDrawers, 1), (NoPlace, 2), (NoGraces, "graces"))
 WITH_PLACE = WITH_STANDING[:2] + ((NoPlace, 2),) + WITH_STANDING[2:]
@@ -101,6 +171,8 @@ CALLS[clerks.are_misses] = ((ROW, 2, [0, 1, 3]), NAMED, WITH_STANDING)
 def wrong_of(kind, turn):
     if kind is TooMany:
         return GREAT
+    if kind is TooManyTried:
+        return [(["a", "b"], 20), "a"]
     return WRONG[kind][turn % len(WRONG[kind])]
 
 
@@ -109,7 +181,7 @@ def spoilt(call, due, turn):
     handed = list(CALLS[call][0])
     named = dict(CALLS[call][1])
     # A row that is no row at all takes the place of one that is only too long.
-    for kind, where in sorted(due, key=lambda one: one[0] is not TooMany):
+    for kind, where in sorted(due, key=lambda one: not issubclass(one[0], TooMany)):
         if isinstance(where, int):
             handed[where] = wrong_of(kind, turn)
         else:
@@ -127,7 +199,9 @@ class TestOrder(unittest.TestCase):
         self.assertIs(type(caught.exception), told, (call.__name__, handed, named))
         fields = {}
         if told is TooMany:
-            fields = {"many": 402}
+            fields = {"many": 402 if first is TooMany else 41}
+        elif first is NoSuchThings:
+            fields = {"thing": "A"}
         elif told in (NoThing, NoPlace):
             fields = {"thing" if told is NoThing else "place": handed[where]}
         self.assertEqual(caught.exception.__dict__, fields)
@@ -158,8 +232,8 @@ class TestOrder(unittest.TestCase):
         self.assertRaises(NoStanding, clerks.asked, 2, old, "a")
 
     def test_four_hundred_asks_are_near(self):
-        near = [(["a", "b"], 200)]
         for call, (handed, named, order) in CALLS.items():
+            near = [(["a", "b", "c", "d"], 100)]
             if (TooMany, 0) in order:
                 call(near, *handed[1:], **named)
                 with self.assertRaises(TooMany) as caught:
@@ -238,11 +312,24 @@ class TestApart(unittest.TestCase):
             shelf.shelf: list, shelf.held: list, shelf.marks: list, shelf.sizes: list,
             shelf.most_held: int, shelf.stays: list, shelf.fits: int, plain.plain_depths: list,
             plain.plain_misses: list, plain.spared: list, plain.like_places: int,
+            graces.is_kinder: bool, graces.helped: list, graces.like_drawers: int,
+            graces.by_grace: list, graces.least_graces: dict, graces.least_paper: tuple,
+            graces.is_least_paper: bool, graces.graces_of: dict, graces.graces_barred: tuple,
+            starts.is_younger: bool, starts.unlike_asks: list, starts.met: int,
+            starts.younger_of: list, starts.elder_of: list, starts.how_many_between: int,
+            starts.row_to: tuple, starts.comes_to: bool, starts.all_met: int,
+            starts.more_missed: int, edits.put_in: tuple, edits.left_out: list,
+            edits.exchanged: list, edits.put_away: list, edits.best_put_in: tuple,
+            reminders.kept_walk: list, reminders.gaps: dict, reminders.needs: dict,
+            reminders.fewest: int, reminders.lazy: list, reminders.wanted: list,
+            reminders.drawers_for_few: int,
         }
         self.assertEqual(set(kinds), set(CALLS))
         for call, kind in kinds.items():
             handed, named, _ = CALLS[call]
             self.assertIs(type(call(*handed, **named)), kind, call.__name__)
+        for told in (graces.least_paper(ROW, 2, ["a"]), edits.put_in(ROW, 2, "c"), starts.row_to(2, STANDING)):
+            self.assertIs(type(told[1]), list)
         truths = clerks.walk(ROW, 2)
         self.assertEqual({type(one) for one in truths}, {bool})
         for pairs in (clerks.losses(list("abcd"), 1), clerks.lying(2, STANDING),

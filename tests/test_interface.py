@@ -44,6 +44,32 @@ INTERFACE = {
         "plain_depths": "row", "plain_misses": "row places", "spared": "row drawers",
         "like_places": "row drawers",
     },
+    "graces": {
+        "is_kinder": "graces other", "helped": "row drawers graces other",
+        "like_drawers": "row drawers graces", "by_grace": "row drawers thing * graces",
+        "least_graces": "row drawers wish * graces", "least_paper": "row drawers wish * graces",
+        "is_least_paper": "row drawers wish thing * graces",
+        "graces_of": "row drawers places", "graces_barred": "row drawers places",
+    },
+    "starts": {
+        "is_younger": "drawers one other * graces",
+        "unlike_asks": "row drawers one other * graces", "met": "row drawers one other * graces",
+        "younger_of": "drawers one other * graces", "elder_of": "drawers one other * graces",
+        "how_many_between": "drawers one other * graces",
+        "row_to": "drawers start", "comes_to": "row drawers start",
+        "all_met": "row drawers things * graces", "more_missed": "row drawers one other * graces",
+    },
+    "edits": {
+        "put_in": "row place thing * graces", "left_out": "row place * graces",
+        "exchanged": "row place * graces", "put_away": "row place thing * graces",
+        "best_put_in": "row drawers * graces",
+    },
+    "reminders": {
+        "kept_walk": "row drawers wished * graces", "gaps": "row drawers wished * graces",
+        "needs": "row drawers wished * graces", "fewest": "row drawers wished * graces",
+        "lazy": "row drawers wished * graces", "wanted": "row drawers wished * graces",
+        "drawers_for_few": "row wished most * graces",
+    },
 }
 
 
