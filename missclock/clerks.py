@@ -5,8 +5,9 @@ standing, take right ones, with {} for no graces and [] for the empty standing.
 """
 
 from missclock.errors import NoDrawers, NoGraces, NoStanding
-from missclock.kinds import is_whole
-from missclock.rows import check_near, check_place, check_row, check_thing, count_asks, is_thing, laid_out
+from missclock.kinds import are_wholes, is_whole
+from missclock.rows import LONGEST_THING, are_small, count_asks, laid_out
+from missclock.rows import check_near, check_place, check_row, check_thing
 
 MOST_DRAWERS = 10 ** 30
 
@@ -14,7 +15,8 @@ MOST_DRAWERS = 10 ** 30
 def is_standing(drawers, thing, *, graces=None):
     """Tell of anything whether it is a standing of so many drawers."""
     check_drawers(drawers)
-    return stands(thing, drawers, checked_graces(graces))
+    known, lowest = _with_lowest(graces)
+    return _ages_of(thing, drawers, known, drawers + lowest) is not None
 
 
 def walk(row, drawers, *, graces=None, standing=None):
@@ -44,10 +46,23 @@ def losses(row, drawers, *, graces=None, standing=None):
 def asked(drawers, standing, thing, *, graces=None):
     """Tell of one ask: whether it hits, the standing behind it, what it puts away."""
     check_drawers(drawers)
-    known = checked_graces(graces)
-    start = checked_standing(standing, drawers, known)
+    known, lowest = _with_lowest(graces)
+    least = drawers + lowest
+    ages = {} if standing is None else _ages_of(standing, drawers, known, least)
+    if ages is None:
+        raise NoStanding("this is no standing")
     check_thing(thing)
-    return step(start, drawers, known, thing)
+    if thing in ages:
+        others = [(other, age) for other, age in ages.items() if other != thing]
+        return True, [(thing, 0)] + others, []
+    older = [(other, age + 1) for other, age in ages.items()]
+    at = len(older)
+    while at > 0 and older[at - 1][1] >= least:
+        at -= 1
+    kept = [pair for pair in older[at:] if pair[1] < limit_of(pair[0], drawers, known)]
+    gone = [other for other, age in older[at:] if age >= limit_of(other, drawers, known)]
+    front = [(thing, 0)] if limit_of(thing, drawers, known) >= 1 else []
+    return False, front + older[:at] + kept, gone
 
 
 def lying(drawers, standing, *, graces=None):
@@ -65,11 +80,15 @@ def reason(row, drawers, place, *, graces=None, standing=None):
     check_row(row)
     check_drawers(drawers)
     check_place(place, count_asks(row))
-    asks, known, start = _looked(row, drawers, graces, standing)
+    known = checked_graces(graces)
+    start = checked_standing(standing, drawers, known)
+    check_near(row)
+    # What is asked later changes nothing of it.
+    asks = laid_out(row)[:place + 1]
     limit = limit_of(asks[place], drawers, known)
     if limit < 1:
         return ("never",)
-    since, age = _last_known(asks, place, start)
+    since, age = _last_known(asks, start)
     if age is None:
         return ("new",)
     hits = heard(asks, drawers, known, start)
@@ -85,7 +104,7 @@ def are_misses(row, drawers, thing, *, graces=None, standing=None):
     missed = missed_places(heard(asks, drawers, known, start))
     if not isinstance(thing, list) or len(thing) != len(missed):
         return False
-    return all([is_whole(one) and one == place for one, place in zip(thing, missed)])
+    return are_wholes(thing) and thing == missed
 
 
 def check_drawers(drawers):
@@ -95,70 +114,82 @@ def check_drawers(drawers):
 
 
 def checked_graces(graces):
-    """Tell graces as a dict, {} for None; refuse what is none."""
+    """Tell graces as they are, {} for None; refuse what is none."""
+    known, _ = _with_lowest(graces)
+    return known
+
+
+def _with_lowest(graces):
+    """Tell graces as they are, {} for None, and the lowest one, 0 at most; refuse what is none."""
     if graces is None:
-        return {}
-    if not is_graces(graces):
+        return {}, 0
+    lowest = _lowest_of(graces)
+    if lowest is None:
         raise NoGraces("these are no graces")
-    return {thing: graces[thing] for thing in graces}
+    return graces, lowest
 
 
-def is_graces(graces):
-    """Tell whether anything is a dict from things to whole numbers."""
+def _lowest_of(graces):
+    """Tell the lowest grace, 0 at most, of a dict from things to whole numbers; of anything else None."""
     if not isinstance(graces, dict):
-        return False
-    return all([is_thing(thing) and is_whole(grace) for thing, grace in graces.items()])
+        return None
+    lowest = 0
+    for thing, grace in graces.items():
+        if not isinstance(thing, str) or len(thing) > LONGEST_THING:
+            return None
+        if not isinstance(grace, int) or grace is True or grace is False:
+            return None
+        if grace < lowest:
+            lowest = grace
+    return lowest if "" not in graces and are_small("".join(graces)) else None
 
 
 def checked_standing(standing, drawers, graces):
-    """Tell a standing as a list, [] for None; refuse what is none."""
+    """Tell a standing as it is, [] for None; refuse what is none."""
     if standing is None:
         return []
     if not stands(standing, drawers, graces):
         raise NoStanding("this is no standing")
-    return list(standing)
+    return standing
 
 
 def stands(thing, drawers, graces):
     """Tell of anything whether it is a standing."""
+    least = drawers + min(0, min(graces.values(), default=0))
+    return _ages_of(thing, drawers, graces, least) is not None
+
+
+def _ages_of(thing, drawers, graces, least):
+    """Tell a standing as a dict, in its order, from things to ages; of anything else None.
+
+    Ahead of each ask this is done anew: so all is looked at in one go, and what can
+    be looked at all at once, the letters and the order of the ages, behind it.
+    """
     if not isinstance(thing, list):
-        return False
-    named = {}
-    least = 0
+        return None
+    told = {}
     for pair in thing:
-        if not _is_aged(pair):
-            return False
+        if not isinstance(pair, tuple) or len(pair) != 2:
+            return None
         name, age = pair
-        if name in named or not least <= age < limit_of(name, drawers, graces):
-            return False
-        named[name] = True
-        least = age
-    return True
-
-
-def _is_aged(pair):
-    """Tell whether anything is a tuple of a thing and a whole number."""
-    if not isinstance(pair, tuple) or len(pair) != 2:
-        return False
-    return is_thing(pair[0]) and is_whole(pair[1])
+        if not isinstance(name, str) or len(name) > LONGEST_THING:
+            return None
+        if not isinstance(age, int) or age is True or age is False:
+            return None
+        if age >= least and age >= drawers + graces.get(name, 0):
+            return None
+        told[name] = age
+    ages = list(told.values())
+    if len(ages) < len(thing) or "" in told or not are_small("".join(told)):
+        return None
+    if ages != sorted(ages) or ages and ages[0] < 0:
+        return None
+    return told
 
 
 def limit_of(thing, drawers, graces):
     """Tell the age at which the thing is put away."""
     return drawers + graces.get(thing, 0)
-
-
-def step(standing, drawers, graces, thing):
-    """Ask for a thing: whether it hits, the standing behind it, what it puts away."""
-    others = [(other, age) for other, age in standing if other != thing]
-    if len(others) < len(standing):
-        return True, [(thing, 0)] + others, []
-    older = [(other, age + 1) for other, age in others]
-    kept = [(other, age) for other, age in older if age < limit_of(other, drawers, graces)]
-    gone = [other for other, age in older if age >= limit_of(other, drawers, graces)]
-    if limit_of(thing, drawers, graces) >= 1:
-        kept = [(thing, 0)] + kept
-    return False, kept, gone
 
 
 def hear(asks, table, now, drawers, graces):
@@ -259,12 +290,14 @@ def _looked(row, drawers, graces, standing):
     return laid_out(row), known, start
 
 
-def _last_known(asks, place, standing):
-    """Tell from where on a thing's misses count, and its age there, None of a new one."""
+def _last_known(asks, standing):
+    """Tell from where on the last ask's thing's misses count, and its age there, None of a new one."""
+    place = len(asks) - 1
+    thing = asks[place]
     for at in range(place - 1, -1, -1):
-        if asks[at] == asks[place]:
+        if asks[at] == thing:
             return at + 1, 0
-    for thing, age in standing:
-        if thing == asks[place]:
+    for name, age in standing:
+        if name == thing:
             return 0, age
     return 0, None

@@ -194,7 +194,7 @@ def _judged(row, drawers, places):
     check_drawers(drawers)
     if not are_places(places, len(asks)):
         raise NoWish("these are no places of asks")
-    missed = set(places)
+    missed = {at: True for at in places}
     hits = [at not in missed for at in range(len(asks))]
     return asks, hits, misses_since(asks, hits)
 

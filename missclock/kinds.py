@@ -10,6 +10,12 @@ def is_whole(value):
     return isinstance(value, int) and not isinstance(value, bool)
 
 
+def are_wholes(values):
+    """Tell of a list of anything whether all in it are whole numbers."""
+    whole = [value for value in values if isinstance(value, int) and value is not True and value is not False]
+    return len(whole) == len(values)
+
+
 def copied(value, deep=DEEPEST_COPY):
     """Tell anything, its lists, tuples and dicts as new ones."""
     if deep == 0:

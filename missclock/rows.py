@@ -18,9 +18,21 @@ DEEPEST_ROW = 2 * 10 ** 6
 
 def is_thing(thing):
     """Tell whether anything is a thing."""
-    if not isinstance(thing, str) or not 1 <= len(thing) <= LONGEST_THING:
-        return False
-    return all(["a" <= sign <= "z" for sign in thing])
+    return isinstance(thing, str) and 1 <= len(thing) <= LONGEST_THING and are_small(thing)
+
+
+def are_things(values):
+    """Tell of a list, or a dict's keys, whether all of them are things.
+
+    Their letters are looked at all at once: one by one takes far longer.
+    """
+    texts = [text for text in values if isinstance(text, str) and 1 <= len(text) <= LONGEST_THING]
+    return len(texts) == len(values) and are_small("".join(texts))
+
+
+def are_small(signs):
+    """Tell whether the signs of a text, perhaps none, are small letters."""
+    return signs == "" or signs.isascii() and signs.isalpha() and signs == signs.lower()
 
 
 def is_row(thing):
@@ -32,11 +44,13 @@ def is_row(thing):
         row, deep = waiting.pop()
         if deep > DEEPEST_ROW:
             return False
-        for part in row:
-            if _looks_again(part):
-                waiting.append((part[0], deep + 1))
-            elif not is_thing(part):
+        agains = [part for part in row if not isinstance(part, str)]
+        for part in agains:
+            if not _looks_again(part):
                 return False
+            waiting.append((part[0], deep + 1))
+        if len(agains) < len(row) and not are_things({part: True for part in row if isinstance(part, str)}):
+            return False
     return True
 
 
@@ -152,7 +166,8 @@ def check_place(place, many):
 
 def count_asks(row):
     """Tell how many asks a right row has."""
-    return sum([_part_asks(part) for part in row])
+    agains = [part for part in row if not isinstance(part, str)]
+    return len(row) - len(agains) + sum([count_asks(inner) * times for inner, times in agains])
 
 
 def _part_asks(part):

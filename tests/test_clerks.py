@@ -23,6 +23,44 @@ def some_cases(seed, many=300):
     return [some_case(chance) for _ in range(many)]
 
 
+def some_great_case(chance):
+    """Far more asks and things, with graces far apart, some of them of thirty figures."""
+    letters = oracle.some_names(chance.choice((8, 25, 60)))
+    drawers = chance.choice((1, 2, 7, 20, 40, MOST))
+    far = chance.choice((1, 3, 12, 40, 10 ** 29))
+    graces = {thing: chance.randint(-far, far) for thing in letters if chance.random() < 0.7}
+    standing = oracle.some_standing(chance, drawers, graces, letters)
+    return oracle.some_asks(chance, chance.choice((60, 150, 400)), letters), drawers, graces, standing
+
+
+def reason_by_words(asks, drawers, place, graces, standing, hits):
+    """Point 17 word by word, by the truths of the walk."""
+    thing = asks[place]
+    first = dict(standing)
+    limit = drawers + graces.get(thing, 0)
+    ahead = oracle.last_ahead(asks, place)
+    if limit < 1:
+        return ("never",)
+    if ahead is None and thing not in first:
+        return ("new",)
+    since = 0 if ahead is None else ahead + 1
+    missed = [at for at in range(since, place) if not hits[at]]
+    if hits[place]:
+        return ("hit", missed)
+    need = limit - first[thing] if ahead is None else limit
+    assert len(missed) >= need
+    return ("miss", missed[:need])
+
+
+def is_standing_by_words(drawers, thing, graces):
+    """Point 13 word by word, of a list of tuples of a text and a number."""
+    names = [name for name, _ in thing]
+    ages = [age for _, age in thing]
+    if len(set(names)) < len(names) or ages != sorted(ages) or any(age < 0 for age in ages):
+        return False
+    return all(age < drawers + graces.get(name, 0) for name, age in thing)
+
+
 class TestDrawers(unittest.TestCase):
     """Without graces, from nothing: word by word with drawers, as point 1 says."""
 
@@ -155,41 +193,33 @@ class TestStandings(unittest.TestCase):
         self.assertIs(is_standing(1, [("a", 6)], graces={"a": 6}), True)
 
     def test_no_standings(self):
-        for thing in (None, (), (("a", 0),), {}, {"a": 0}, 3, True, "a", object(), [None], ["a"],
-                      [["a", 0]], [("a",)], [("a", 0, 0)], [("A", 0)], [(3, 0)], [(["a"], 0)],
-                      [("a", -1)], [("a", True)], [("a", False)], [("a", 0.0)], [("a", None)],
-                      [("a", "0")], [("a", 0), ("a", 0)], [("a", 0), ("b", 1), ("a", 2)],
-                      [("a", 1), ("b", 0)], [("a", 3)], [("a", 0), ("b", 3)], [("a", 10 ** 5000)]):
-            self.assertIs(is_standing(3, thing), False, thing)
+        for graces in (None, {}, {"a": 0}, {"a": 0, "b": 0, "c": 0}, {"z": -9}):
+            self.no_standings(graces)
         self.assertIs(is_standing(3, [("a", 2)], graces={"a": -1}), False)
         self.assertIs(is_standing(3, [("a", 0)], graces={"a": -3}), False)
         self.assertIs(is_standing(3, [("a", 0)], graces={"a": -9}), False)
         self.assertIs(is_standing(1, [("a", 7)], graces={"a": 6}), False)
+
+    def no_standings(self, graces):
+        for thing in (None, (), (("a", 0),), {}, {"a": 0}, 3, True, "a", object(), [None], ["a"],
+                      [["a", 0]], [("a",)], [("a", 0, 0)], [("A", 0)], [(3, 0)], [(["a"], 0)],
+                      [("a", -1)], [("a", True)], [("a", False)], [("a", 0.0)], [("a", None)],
+                      [("a", "0")], [("a", 0), ("a", 0)], [("a", 0), ("b", 1), ("a", 2)],
+                      [("a", 1), ("b", 0)], [("a", 3)], [("a", 0), ("b", 3)], [("a", 10 ** 5000)],
+                      [("a", True), ("b", 1)], [("a", 0), ("b", True)], [("a", 0), ("", 0)],
+                      [("a", 0), ("abcdefghi", 0)], [("a", 0), ("B", 1)], [("a", 0), ("b c", 1)],
+                      [("a", 0), (chr(228), 1)], [("a", 0), (chr(170), 1)], [("a", 0), ("b1", 1)],
+                      [("a", 0), b"ab"], [("a", 0), "ab"], [("a", 0), ["b", 1]], [("a", -1), ("b", 0)]):
+            self.assertIs(is_standing(3, thing, graces=graces), False, thing)
 
 
 class TestReasons(unittest.TestCase):
     def test_against_the_walk(self):
         for asks, drawers, graces, standing in some_cases(17, 200):
             hits, _, _ = oracle.in_ages(asks, drawers, graces, standing)
-            first = dict(standing)
-            for place, thing in enumerate(asks):
+            for place in range(len(asks)):
                 told = reason(asks, drawers, place, graces=graces, standing=standing)
-                limit = drawers + graces.get(thing, 0)
-                ahead = [at for at in range(place) if asks[at] == thing]
-                if limit < 1:
-                    self.assertEqual(told, ("never",))
-                elif not ahead and thing not in first:
-                    self.assertEqual(told, ("new",))
-                else:
-                    since = ahead[-1] + 1 if ahead else 0
-                    need = limit if ahead else limit - first[thing]
-                    missed = [at for at in range(since, place) if not hits[at]]
-                    if hits[place]:
-                        self.assertLess(len(missed), need)
-                        self.assertEqual(told, ("hit", missed))
-                    else:
-                        self.assertGreaterEqual(len(missed), need)
-                        self.assertEqual(told, ("miss", missed[:need]))
+                self.assertEqual(told, reason_by_words(asks, drawers, place, graces, standing, hits))
 
     def test_by_hand(self):
         row = list("abcdab")
@@ -203,6 +233,94 @@ class TestReasons(unittest.TestCase):
         self.assertEqual(reason(list("bca"), 3, 2, standing=[("a", 2)]), ("miss", [0]))
         self.assertEqual(reason(list("bca"), 3, 2, standing=[("a", 0)]), ("hit", [0, 1]))
         self.assertEqual(reason(["a", "a"], 1, 1), ("hit", []))
+
+
+class TestDrawnGreat(unittest.TestCase):
+    """Rows of up to four hundred asks against the plain reckoning: points 13 to 17."""
+
+    def test_walk_behind_losses_reason(self):
+        chance = oracle.chance_of(700)
+        for _ in range(40):
+            asks, drawers, graces, standing = some_great_case(chance)
+            named = {"graces": graces, "standing": standing}
+            hits, gone, after = oracle.in_ages(asks, drawers, graces, standing)
+            self.assertEqual(walk(asks, drawers, **named), hits)
+            self.assertEqual(misses(asks, drawers, **named), hits.count(False))
+            self.assertEqual(behind(asks, drawers, **named), after)
+            lost = [(at, things) for at, things in enumerate(gone) if things]
+            self.assertEqual(losses(asks, drawers, **named), lost)
+            missed = [at for at, hit in enumerate(hits) if not hit]
+            self.assertIs(are_misses(asks, drawers, missed, **named), True)
+            for place in chance.sample(range(len(asks)), 12):
+                due = reason_by_words(asks, drawers, place, graces, standing, hits)
+                self.assertEqual(reason(asks, drawers, place, **named), due)
+
+    def test_asked(self):
+        chance = oracle.chance_of(701)
+        for _ in range(15):
+            asks, drawers, graces, now = some_great_case(chance)
+            for thing in asks[:100]:
+                hits, gone, after = oracle.in_ages([thing], drawers, graces, now)
+                told = asked(drawers, now, thing, graces=graces)
+                self.assertEqual(told, (hits[0], after, gone[0]))
+                now = after
+
+    def test_is_standing(self):
+        chance = oracle.chance_of(702)
+        for _ in range(400):
+            _, drawers, graces, standing = some_great_case(chance)
+            for _ in range(chance.randint(0, 2)):
+                at = chance.randint(0, len(standing))
+                age = standing[min(at, len(standing) - 1)][1] if standing else 0
+                name = chance.choice(oracle.some_names(61))
+                standing.insert(at, (name, age + chance.choice((-1, 0, 0, 1))))
+            if standing and chance.random() < 0.5:
+                name, _ = standing.pop()
+                standing.append((name, drawers + graces.get(name, 0) - chance.randint(0, 1)))
+            due = is_standing_by_words(drawers, standing, graces)
+            self.assertIs(is_standing(drawers, standing, graces=graces), due)
+
+    def test_what_was_changed_in_between_is_told_as_it_is_then(self):
+        row = list("abcabc")
+        graces = {"a": 1}
+        standing = [("c", 0)]
+        calls = (walk, misses, behind, losses)
+        for change in (lambda: row.append("a"), lambda: graces.update(b=2), lambda: standing.append(("d", 1)),
+                       lambda: row.insert(0, "d"), lambda: graces.pop("a"), standing.clear):
+            change()
+            fresh = {"graces": dict(graces), "standing": list(standing)}
+            for call in calls:
+                told = call(row, 2, graces=graces, standing=standing)
+                self.assertEqual(told, call(list(row), 2, **fresh))
+            hits, _, _ = oracle.in_ages(row, 2, graces, standing)
+            self.assertEqual(walk(row, 2, graces=graces, standing=standing), hits)
+            for place in range(len(row)):
+                told = reason(row, 2, place, graces=graces, standing=standing)
+                self.assertEqual(told, reason_by_words(row, 2, place, graces, standing, hits))
+            told = asked(2, standing, "a", graces=graces)
+            hits, gone, after = oracle.in_ages(["a"], 2, graces, standing)
+            self.assertEqual(told, (hits[0], after, gone[0]))
+
+    def test_many_are_soon_told(self):
+        """Far beyond what is needed here, far below what a look at each thing at each ask needs."""
+        names = oracle.some_names(60)
+        row = [names[7 * at % 60] for at in range(400)]
+        graces = {name: at % 7 - 3 for at, name in enumerate(names)}
+        began = time.process_time()
+        for place in range(400):
+            reason(row, 40, place)
+        self.assertLess(time.process_time() - began, 0.6)
+        began = time.process_time()
+        for _ in range(100):
+            for call in (walk, misses, behind, losses):
+                call(row, 40)
+        self.assertLess(time.process_time() - began, 0.6)
+        now = []
+        began = time.process_time()
+        for _ in range(10):
+            for thing in row:
+                _, now, _ = asked(40, now, thing, graces=graces)
+        self.assertLess(time.process_time() - began, 0.6)
 
 
 class TestJudge(unittest.TestCase):

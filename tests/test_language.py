@@ -12,7 +12,7 @@ dict set isinstance ord repr any all divmod ValueError super""".split())
 METHODS = set("""append clear copy count endswith extend find get index insert isalnum isalpha isdigit
 islower isspace isupper items join keys ljust lower lstrip partition pop remove replace reverse rfind
 rjust rpartition rsplit rstrip setdefault split splitlines startswith strip update upper values zfill
-bit_length __init__""".split())
+bit_length isascii __init__""".split())
 
 BARRED = (ast.Global, ast.AsyncFunctionDef, ast.AsyncFor, ast.AsyncWith, ast.Await, ast.Lambda,
           ast.GeneratorExp, ast.Yield, ast.YieldFrom, ast.Div, ast.With, ast.Try, ast.Import,
