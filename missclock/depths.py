@@ -64,31 +64,37 @@ def nearest_again(row, drawers, *, graces=None):
 
 def reckoned(asks, graces):
     """Tell the depths of asks that are laid out."""
+    # An endless depth stands here as a number that no other depth reaches: where d + grace
+    # asks at least are wanted of fewer than all, d is less than all and what is below 0.
+    endless = len(asks) - min(0, min(graces.values(), default=0))
     told = []
     last = {}
     for place, thing in enumerate(asks):
         if thing in last:
-            since = told[last[thing] + 1:]
+            since = sorted(told[last[thing] + 1:])
             told.append(depth_behind(since, graces.get(thing, 0)))
         else:
-            told.append(None)
+            told.append(endless)
         last[thing] = place
-    return told
+    return [None if depth == endless else depth for depth in told]
 
 
 def depth_behind(since, grace):
-    """Tell the depth of an ask by the depths of the asks since its thing's last one.
+    """Tell the depth of an ask by the depths, rising, of the asks since its thing's last one.
 
-    Depth d is reached by the k deepest of these asks where the k-th is d deep at
-    least and k is d + grace at least: so at most the lesser of its depth and
-    k - grace, which is told of each k in one go, however great the numbers are.
+    Depth d is reached where the k-th deepest of these asks, with k as d + grace, is
+    d deep at least. Each k that does so lies ahead of each that doesn't, as depths
+    fall from the deepest one on and d rises: so the last one is found by halving.
     """
-    endless = since.count(None)
-    deepest = max(0, endless - grace)
-    ended = sorted([depth for depth in since if depth is not None], reverse=True)
-    for many, depth in enumerate(ended, start=endless + 1):
-        deepest = max(deepest, min(depth, many - grace))
-    return deepest
+    many = len(since)
+    few = 0
+    while few < many:
+        middle = (few + many) // 2
+        if since[-1 - middle] > middle - grace:
+            few = middle + 1
+        else:
+            many = middle
+    return max(0, few - grace)
 
 
 def is_missed(depth, drawers):
@@ -110,9 +116,13 @@ def are_places(places, many):
 
 def _steps(told):
     """Tell how many asks of these depths are missed, by steps, from one drawer on."""
-    reached = sorted(set([depth for depth in told if depth is not None and depth > 0]))
-    turns = [1] + [depth + 1 for depth in reached]
-    return [(drawers, sum([is_missed(depth, drawers) for depth in told])) for drawers in turns]
+    deep = sorted([depth for depth in told if depth is not None and depth > 0])
+    many = told.count(None) + len(deep)
+    steps = [(1, many)]
+    for at, depth in enumerate(deep, start=1):
+        if at == len(deep) or deep[at] > depth:
+            steps.append((depth + 1, many - at))
+    return steps
 
 
 def _missed_again(asks, missed):

@@ -54,6 +54,40 @@ class TestDepths(unittest.TestCase):
                         best = d
                 self.assertEqual(told[at], best)
 
+    def test_drawn_great_rows(self):
+        """By the words of point 20, where the greatest d is one of the depths since, or of k less the grace."""
+        chance = oracle.chance_of(800)
+        for _ in range(40):
+            names = oracle.some_names(chance.choice((3, 15, 60)))
+            asks = oracle.some_asks(chance, chance.choice((50, 120)), names)
+            far = chance.choice((0, 2, 9, 60, 10 ** 29, 10 ** 30 - 1))
+            graces = {name: chance.randint(-far, far) for name in names if chance.random() < 0.7}
+            told = depths(asks, graces=graces)
+            for at, thing in enumerate(asks):
+                before = oracle.last_ahead(asks, at)
+                if before is None:
+                    self.assertIsNone(told[at])
+                    continue
+                since = told[before + 1:at]
+                grace = graces.get(thing, 0)
+                tried = [x for x in since if x is not None] + [k - grace for k in range(len(since) + 1)]
+                due = [d for d in tried if d >= 1 and
+                       len([x for x in since if x is None or x >= d]) >= d + grace]
+                self.assertEqual(told[at], max(due, default=0))
+
+    def test_many_are_soon_told(self):
+        names = oracle.some_names(60)
+        chance = oracle.chance_of(801)
+        began = time.process_time()
+        for row in ([names[7 * at % 60] for at in range(400)], oracle.some_asks(chance, 400, names)):
+            for _ in range(20):
+                depths(row)
+                missed_by(row)
+                drawers_for(row, 200)
+                thinned(row)
+                nearest_again(row, 10)
+        self.assertLess(time.process_time() - began, 1)
+
     def test_by_clerks(self):
         for asks, graces in some_cases(21, 100):
             self.assertEqual(depths(asks, graces=graces), oracle.depths_by_clerks(asks, graces, 45))
