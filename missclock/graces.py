@@ -66,9 +66,8 @@ def by_grace(row, drawers, thing, *, graces=None):
 def least_graces(row, drawers, wish, *, graces=None):
     """Tell the least graces of wished things, asked twice at least, that keep the wish."""
     asks, known = _wished(row, drawers, wish, graces)
-    since = misses_since(asks, kept_hits(asks, drawers, known, wish))
-    again = _asked_again(asks, wish)
-    return {thing: max([since[at] for at in again[thing]]) - drawers + 1 for thing in again}
+    hits = kept_hits(asks, drawers, known, wish)
+    return {thing: many - drawers + 1 for thing, _, many in _most_since(asks, hits, wish)}
 
 
 def least_paper(row, drawers, wish, *, graces=None):

@@ -50,7 +50,8 @@ WRONG = {
     NoRow: (None, "ab", 3, {"a": 1}, ["A"], [(["a"], 0)], [([], 1)], ["a", ["b"]], [(["a"], True)],
             {"a"}, object()),
     NoDrawers: (0, -1, MOST + 1, True, False, None, "3", 2.0, [2], (2,)),
-    NoGraces: (0, False, [], (), "a", {"A": 1}, {"a": None}, {"a": True}, {"a": 1.0}, {3: 1},
+    NoGraces: (0, False, [], (), "a", {"A": 1}, {"a": None}, {"a": True}, {"a": False},
+               {"b": 2, "a": False}, {"a": 1, "abcdefghi": 1}, {"a": 1, "bC": 2}, {"a": 1.0}, {3: 1},
                {"": 1}, {("a",): 1}, {"a": 1, "b": "1"}, [("a", 1)], {"a"}),
     NoStanding: ((), {}, 0, False, "a", [None], [["a", 0]], [("a", -1)], [("a", True)],
                  [("b", 0), ("b", 0)], [("b", 1), ("c", 0)], [("b", 10 ** 40)], [("b",)],
@@ -228,8 +229,27 @@ class TestOrder(unittest.TestCase):
             self.assertRaises(NoStanding, call, ROW, 3, graces={"a": -1}, standing=old)
             call(ROW, 3, standing=old)
             call(ROW, 2, graces={"a": 1}, standing=old)
+        # Where some have less grace and others more, each has its own limit.
+        for kind in ({"a": -1, "b": 2}, {"a": -1, "b": 0, "c": -5}, {"b": 10 ** 29, "a": -1}):
+            for call in (clerks.walk, clerks.misses, clerks.behind, clerks.losses):
+                self.assertRaises(NoStanding, call, ROW, 3, graces=kind, standing=old)
+                call(ROW, 4, graces=kind, standing=old)
+            for call in (clerks.is_standing, clerks.lying):
+                call(4, old, graces=kind)
+            self.assertIs(clerks.is_standing(3, old, graces=kind), False)
+            self.assertRaises(NoStanding, clerks.lying, 3, old, graces=kind)
+            self.assertRaises(NoStanding, clerks.asked, 3, old, "a", graces=kind)
         self.assertRaises(NoStanding, clerks.lying, 2, old)
         self.assertRaises(NoStanding, clerks.asked, 2, old, "a")
+
+    def test_things_of_eight_letters(self):
+        row = ["abcdefgh", "a", "zzzzzzzz"]
+        graces = {"abcdefgh": 1, "zzzzzzzz": -1}
+        standing = [("zzzzzzzz", 0), ("abcdefgh", 2)]
+        self.assertIs(clerks.is_standing(2, standing, graces=graces), True)
+        self.assertEqual(clerks.walk(row, 2, graces=graces, standing=standing), [True, False, False])
+        for call in (clerks.is_standing, clerks.lying):
+            call(2, standing, graces=graces)
 
     def test_four_hundred_asks_are_near(self):
         for call, (handed, named, order) in CALLS.items():
