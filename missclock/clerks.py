@@ -159,11 +159,17 @@ def stands(thing, drawers, graces):
     return _ages_of(thing, drawers, graces, least) is not None
 
 
+def is_aged(thing):
+    """Tell of anything whether it has the form of a standing, whatever the limits are."""
+    return _ages_of(thing, None, {}, None) is not None
+
+
 def _ages_of(thing, drawers, graces, least):
     """Tell a standing as a dict, in its order, from things to ages; of anything else None.
 
-    Ahead of each ask this is done anew: so all is looked at in one go, and what can
-    be looked at all at once, the letters and the order of the ages, behind it.
+    No limit is below least; where this is None, there are no limits. Ahead of each ask
+    this is done anew: so all is looked at in one go, and what can be looked at all at
+    once, the letters and the order of the ages, behind it.
     """
     if not isinstance(thing, list):
         return None
@@ -176,7 +182,7 @@ def _ages_of(thing, drawers, graces, least):
             return None
         if not isinstance(age, int) or age is True or age is False:
             return None
-        if age >= least and age >= drawers + graces.get(name, 0):
+        if least is not None and age >= least and age >= drawers + graces.get(name, 0):
             return None
         told[name] = age
     ages = list(told.values())
@@ -223,10 +229,13 @@ def left_behind(asks, drawers, graces, standing):
     """Tell the standing that asks leave behind."""
     table = table_of(standing)
     now = hear(asks, table, 0, drawers, graces).count(False)
-    latest = {thing: True for thing in asks[::-1]}
-    for thing, _ in standing:
-        latest[thing] = True
-    aged = [(thing, now - table[thing]) for thing in latest]
+    latest = asks[::-1] + [thing for thing, _ in standing]
+    return standing_of(latest, table, now, drawers, graces)
+
+
+def standing_of(latest, table, now, drawers, graces):
+    """Tell what hear's table holds as a standing: latest has all things, the one asked last first."""
+    aged = [(thing, now - table[thing]) for thing in {thing: True for thing in latest}]
     return [(thing, age) for thing, age in aged if age < limit_of(thing, drawers, graces)]
 
 

@@ -13,25 +13,25 @@ from missclock.rows import asked_last, check_near, check_row, laid_out, often
 
 def kept_walk(row, drawers, wished, *, graces=None):
     """Tell ask by ask whether it is a hit in the kept walk."""
-    asks, known = _looked(row, drawers, wished, graces)
+    asks, known = looked_wished(row, drawers, wished, graces)
     return kept_hits(asks, drawers, known, wished)
 
 
 def gaps(row, drawers, wished, *, graces=None):
     """Tell of each wished thing how many misses lie ahead of each ask but its first."""
-    asks, known = _looked(row, drawers, wished, graces)
-    return _lengths(_windows(asks, drawers, wished, known))
+    asks, known = looked_wished(row, drawers, wished, graces)
+    return _lengths(windows_of(asks, drawers, wished, known))
 
 
 def needs(row, drawers, wished, *, graces=None):
     """Tell how many reminders each wished thing needs, None whom no plan helps."""
-    asks, known = _looked(row, drawers, wished, graces)
+    asks, known = looked_wished(row, drawers, wished, graces)
     return _needs(asks, drawers, wished, known)
 
 
 def fewest(row, drawers, wished, *, graces=None):
     """Tell the fewest reminders of all plans that hold, or None."""
-    asks, known = _looked(row, drawers, wished, graces)
+    asks, known = looked_wished(row, drawers, wished, graces)
     return _fewest(asks, drawers, wished, known)
 
 
@@ -69,7 +69,7 @@ def drawers_for_few(row, wished, most, *, graces=None):
     return tried[_first_enough(tried, asks, wished, known, most)]
 
 
-def _looked(row, drawers, wished, graces):
+def looked_wished(row, drawers, wished, graces):
     """Tell a near row's asks and graces, when all is looked at."""
     check_row(row)
     check_drawers(drawers)
@@ -79,7 +79,7 @@ def _looked(row, drawers, wished, graces):
     return laid_out(row), known
 
 
-def _windows(asks, drawers, wished, graces):
+def windows_of(asks, drawers, wished, graces):
     """Tell of each wished thing, for each ask but its first, the misses of the kept walk
     between it and the one ahead.
     """
@@ -102,7 +102,7 @@ def _lengths(windows):
 
 def _needs(asks, drawers, wished, graces):
     """Tell how many reminders each wished thing needs, None whom no plan helps."""
-    lengths = _lengths(_windows(asks, drawers, wished, graces))
+    lengths = _lengths(windows_of(asks, drawers, wished, graces))
     return {thing: _need(lengths[thing], limit_of(thing, drawers, graces)) for thing in lengths}
 
 
@@ -127,10 +127,10 @@ def _stretches(row, drawers, wished, graces):
     A thing bears one miss less than its limit: each stretch ends at the miss by
     which it would be put away, at which, just reminded, it begins to bear anew.
     """
-    asks, known = _looked(row, drawers, wished, graces)
+    asks, known = looked_wished(row, drawers, wished, graces)
     if _fewest(asks, drawers, wished, known) is None:
         return None
-    windows = _windows(asks, drawers, wished, known)
+    windows = windows_of(asks, drawers, wished, known)
     told = []
     for thing in windows:
         bears = max(1, limit_of(thing, drawers, known) - 1)

@@ -209,6 +209,11 @@ def asked_last(asks):
     return told
 
 
+def told_row(row):
+    """Tell a right row as a new list, with new lists within its agains."""
+    return [_told_part(part) for part in row]
+
+
 def _part_with(row, place):
     """Tell which part a place lies in, and the place within this part.
 
@@ -289,7 +294,7 @@ def _parted(row, place):
     """Tell two told rows: what is asked ahead of a place, and the rest."""
     at, rest = _part_with(row, place)
     if rest == 0:
-        return _told_row(row[:at]), _told_row(row[at:])
+        return told_row(row[:at]), told_row(row[at:])
     inner, times = row[at]
     turns, within = divmod(rest, count_asks(inner))
     if within == 0:
@@ -297,8 +302,8 @@ def _parted(row, place):
     else:
         ahead, behind = _parted(inner, within)
         left = times - turns - 1
-    first = _told_row(row[:at]) + _again(inner, turns) + ahead
-    second = behind + _again(inner, left) + _told_row(row[at + 1:])
+    first = told_row(row[:at]) + _again(inner, turns) + ahead
+    second = behind + _again(inner, left) + told_row(row[at + 1:])
     return first, second
 
 
@@ -306,16 +311,11 @@ def _again(inner, times):
     """Tell the parts that ask a row so many times: none for no times."""
     if times == 0:
         return []
-    return [(_told_row(inner), times)]
-
-
-def _told_row(row):
-    """Tell a row as a new list, with new lists within its agains."""
-    return [_told_part(part) for part in row]
+    return [(told_row(inner), times)]
 
 
 def _told_part(part):
     if isinstance(part, str):
         return part
     inner, times = part
-    return (_told_row(inner), times)
+    return (told_row(inner), times)

@@ -84,6 +84,53 @@ def last_ahead(asks, place):
     return ahead[-1] if ahead else None
 
 
+def round_about(asks, place):
+    """The places of the asks between the last ask of a place's thing, in the round ahead if need be, and it."""
+    window = []
+    at = place - 1
+    while asks[at % len(asks)] != asks[place]:
+        window.append(at % len(asks))
+        at -= 1
+    return window
+
+
+class PlainClerk:
+    """Points 73 and 74 word by word, by the things that are there, the one asked last first."""
+
+    def __init__(self, drawers, graces=None, standing=None):
+        self.drawers = drawers
+        self.graces = dict(graces or {})
+        self.held = list(standing or [])
+        self.asked = 0
+        self.missed = 0
+
+    def hear(self, asks):
+        """The truths, ask by ask."""
+        hits, _, self.held = in_ages(asks, self.drawers, self.graces, self.held)
+        self.asked += len(asks)
+        self.missed += hits.count(False)
+        return hits
+
+    def put_away(self, thing):
+        self.held = [(other, age) for other, age in self.held if other != thing]
+
+    def limited(self, drawers, thing=None, grace=0):
+        """Other drawers, and another grace of one thing: who comes to a limit is gone."""
+        self.drawers = drawers
+        if thing is not None:
+            self.graces[thing] = grace
+        self.held = [(other, age) for other, age in self.held
+                     if age < drawers + self.graces.get(other, 0)]
+
+    def told_graces(self):
+        return {thing: self.graces[thing] for thing in sorted(self.graces) if self.graces[thing]}
+
+    def twin(self):
+        other = PlainClerk(self.drawers, self.graces, self.held)
+        other.asked, other.missed = self.asked, self.missed
+        return other
+
+
 def all_rows(most, letters="abc"):
     """All rows of so many asks, or fewer, of these things."""
     for many in range(most + 1):

@@ -14,9 +14,26 @@ islower isspace isupper items join keys ljust lower lstrip partition pop remove 
 rjust rpartition rsplit rstrip setdefault split splitlines startswith strip update upper values zfill
 bit_length isascii __init__""".split())
 
-BARRED = (ast.Global, ast.AsyncFunctionDef, ast.AsyncFor, ast.AsyncWith, ast.Await, ast.Lambda,
-          ast.GeneratorExp, ast.Yield, ast.YieldFrom, ast.Div, ast.With, ast.Try, ast.Import,
-          ast.AnnAssign, ast.Set)
+BARRED = (ast.Global, ast.Nonlocal, ast.AsyncFunctionDef, ast.AsyncFor, ast.AsyncWith, ast.Await, ast.Lambda,
+          ast.GeneratorExp, ast.Yield, ast.YieldFrom, ast.Div, ast.With, ast.Import, ast.Match, ast.NamedExpr,
+          ast.AnnAssign, ast.Set, ast.SetComp)
+
+# What may stand at module level: plain values alone, none of them called for.
+PLAIN = (ast.Constant, ast.Dict, ast.List, ast.Tuple, ast.BinOp, ast.Pow, ast.Mult, ast.Load)
+
+# Words that stand nowhere but in comments and docstrings.
+WORDS = set("""type typing enum Enum Flag Generic Protocol ABC namedtuple NamedTuple dataclass overload register
+elements open input law mro eval exec globals locals vars getattr setattr hasattr""".split())
+
+
+def own_methods():
+    """The methods of the package's classes, by their names."""
+    told = set()
+    for _, text in files():
+        for node in ast.walk(ast.parse(text)):
+            if isinstance(node, ast.ClassDef):
+                told |= {one.name for one in node.body if isinstance(one, ast.FunctionDef)}
+    return told
 
 
 def files():
@@ -47,6 +64,7 @@ class TestLanguage(unittest.TestCase):
                     self.assertIsInstance(node.comparators[0], ast.Constant)
 
     def test_names_and_calls(self):
+        methods = METHODS | own_methods()
         for name, text in files():
             tree = ast.parse(text)
             bound = set(BUILTINS)
@@ -60,7 +78,54 @@ class TestLanguage(unittest.TestCase):
                 if isinstance(node, ast.Call) and isinstance(node.func, ast.Name):
                     self.assertIn(node.func.id, bound, (name, node.lineno))
                 if isinstance(node, ast.Call) and isinstance(node.func, ast.Attribute):
-                    self.assertIn(node.func.attr, METHODS, (name, node.lineno))
+                    self.assertIn(node.func.attr, methods, (name, node.lineno))
+
+    def test_module_level(self):
+        for name, text in files():
+            for node in ast.parse(text).body:
+                if isinstance(node, ast.Assign):
+                    self.assertEqual(len(node.targets), 1)
+                    for part in ast.walk(node.value):
+                        self.assertIsInstance(part, PLAIN, (name, node.lineno))
+                elif isinstance(node, ast.Expr):
+                    self.assertIsInstance(node.value, ast.Constant)
+                else:
+                    self.assertIsInstance(node, (ast.ImportFrom, ast.FunctionDef, ast.ClassDef), (name, node.lineno))
+
+    def test_handlers_name_own_errors_and_raise_anew(self):
+        for name, text in files():
+            for node in ast.walk(ast.parse(text)):
+                if isinstance(node, ast.Try):
+                    self.assertEqual(node.finalbody, [])
+                    for handler in node.handlers:
+                        self.assertEqual((handler.type.id, handler.name), ("MissError", None), name)
+                if isinstance(node, ast.Raise):
+                    self.assertIsInstance(node.exc, ast.Call, (name, node.lineno))
+                    self.assertIsNone(node.cause)
+
+    def test_classes(self):
+        methods, attributes = own_methods(), set()
+        for name, text in files():
+            for node in ast.walk(ast.parse(text)):
+                if isinstance(node, ast.Attribute) and isinstance(node.ctx, ast.Store):
+                    attributes.add(node.attr)
+                    self.assertIsInstance(node.value, ast.Name, (name, node.lineno))
+                if isinstance(node, ast.ClassDef):
+                    self.assertEqual(node.decorator_list, [])
+                    for one in node.body:
+                        self.assertTrue(isinstance(one, ast.FunctionDef) or isinstance(one.value, ast.Constant))
+        # No name is both, in whatever classes; and no attribute has the name of a method of Python's own.
+        self.assertEqual(methods & attributes, set())
+        self.assertEqual(attributes & METHODS, set())
+        self.assertEqual({one for one in methods if one.startswith("__")}, {"__init__", "__eq__", "__len__"})
+
+    def test_words(self):
+        for name, text in files():
+            for node in ast.walk(ast.parse(text)):
+                said = {getattr(node, field, None) for field in ("id", "attr", "arg", "name")}
+                self.assertEqual({word for word in said if isinstance(word, str)} & WORDS, set(), name)
+            for sign in ("%", "chr(", "._\""):
+                self.assertNotIn(sign, text.replace(" % ", ""), name)
 
     def test_no_name_is_bound_to_another_meaning(self):
         for name, text in files():
