@@ -15,7 +15,7 @@ def depths(row, *, graces=None):
 def missed_by(row, *, graces=None):
     """Tell how many asks are missed, for all numbers of drawers, by steps."""
     asks = near(row)
-    return _steps(reckoned(asks, checked_graces(graces)))
+    return steps_of(reckoned(asks, checked_graces(graces)))
 
 
 def drawers_for(row, most, *, graces=None):
@@ -23,7 +23,7 @@ def drawers_for(row, most, *, graces=None):
     asks = near(row)
     if not is_whole(most) or most < 0:
         raise NoNumber("this is no number from 0 on")
-    for drawers, many in _steps(reckoned(asks, checked_graces(graces))):
+    for drawers, many in steps_of(reckoned(asks, checked_graces(graces))):
         if many <= most:
             return drawers
     return None
@@ -102,6 +102,13 @@ def is_missed(depth, drawers):
     return depth is None or depth >= drawers
 
 
+def are_depths(thing):
+    """Tell of anything whether it is a list of numbers from 0 on, and None for endless ones."""
+    if not isinstance(thing, list):
+        return False
+    return all([depth is None or is_whole(depth) and depth >= 0 for depth in thing])
+
+
 def are_places(places, many):
     """Tell whether anything is a rising list of some of so many places."""
     if not isinstance(places, list):
@@ -114,7 +121,7 @@ def are_places(places, many):
     return True
 
 
-def _steps(told):
+def steps_of(told):
     """Tell how many asks of these depths are missed, by steps, from one drawer on."""
     deep = sorted([depth for depth in told if depth is not None and depth > 0])
     many = told.count(None) + len(deep)

@@ -85,6 +85,28 @@ def check_places(places):
         raise NoPlace(places)
 
 
+def shelved(asks, depths):
+    """Tell the shelf of asks of these depths, going back from the last one.
+
+    reached is the depth that an ask here would have, further how many of the asks
+    passed so far are deeper than this: it grows by one where they are more than it.
+    """
+    told = {}
+    counts = {}
+    reached = 0
+    further = 0
+    for thing, depth in zip(asks[::-1], depths[::-1]):
+        if thing not in told:
+            told[thing] = reached
+        if is_missed(depth, reached + 1):
+            further += 1
+            counts[depth] = counts.get(depth, 0) + 1
+        if further > reached:
+            reached += 1
+            further -= counts.get(reached, 0)
+    return [(thing, told[thing]) for thing in told]
+
+
 def _sizes(asks, drawers):
     """Tell how many things a clerk holds behind each ask."""
     gone = dict(lost(asks, drawers, {}, []))
@@ -98,23 +120,5 @@ def _sizes(asks, drawers):
 
 
 def _shelf(asks):
-    """Tell the shelf of asks, going back from the last one.
-
-    reached is the depth that an ask here would have, further how many of the asks
-    passed so far are deeper than this: it grows by one where they are more than it.
-    """
-    told = reckoned(asks, {})
-    shelved = {}
-    counts = {}
-    reached = 0
-    further = 0
-    for thing, depth in zip(asks[::-1], told[::-1]):
-        if thing not in shelved:
-            shelved[thing] = reached
-        if is_missed(depth, reached + 1):
-            further += 1
-            counts[depth] = counts.get(depth, 0) + 1
-        if further > reached:
-            reached += 1
-            further -= counts.get(reached, 0)
-    return [(thing, shelved[thing]) for thing in shelved]
+    """Tell the shelf of asks."""
+    return shelved(asks, reckoned(asks, {}))

@@ -4,10 +4,10 @@ import copy
 import itertools
 import unittest
 
-from missclock import (clerks, depths, edits, graces, judge_depths, papers, plain, reminders, rows, shelf,
-                       starts)
-from missclock.errors import (MissError, NoDrawers, NoGraces, NoNumber, NoPlace, NoRow, NoStanding,
-                              NoThing, NoWish, TooMany)
+from missclock import (clerks, depths, edits, far, graces, judge_depths, judge_reminders, loops, papers, plain,
+                       reminders, rows, shelf, starts, texts, told_back)
+from missclock.errors import (MissError, NoDepths, NoDrawers, NoGraces, NoHistory, NoNumber, NoPlace, NoRow,
+                              NoStanding, NoSteady, NoThing, NoWish, TooMany)
 
 MOST = 10 ** 30
 
@@ -40,9 +40,30 @@ class TooManyTried(TooMany):
     """Stands here for TooMany of a row of more than forty asks."""
 
 
+class TooManyListed(TooMany):
+    """Stands here for TooMany of a loop of more than twelve asks."""
+
+
+class TooManyLooped(TooMany):
+    """Stands here for TooMany of a loop of more than eight asks."""
+
+
+class TooManyToldBack(TooMany):
+    """Stands here for TooMany of a list of more than ten depths."""
+
+
+class NoSuchLoop(NoRow):
+    """Stands here for NoRow of a loop, or a round, which has an ask."""
+
+
+class NoSuchGraces(NoGraces):
+    """Stands here for NoGraces where None is none either."""
+
+
 # The refusal that each of these stands for.
 STANDS_FOR = {NoSuchNumber: NoPlace, NoSuchRoom: NoPlace, NoSuchWish: NoWish, NoSuchStart: NoStanding,
-              NoSuchThings: NoThing, NoneKinder: NoGraces, TooManyTried: TooMany}
+              NoSuchThings: NoThing, NoneKinder: NoGraces, TooManyTried: TooMany, TooManyListed: TooMany,
+              TooManyLooped: TooMany, TooManyToldBack: TooMany, NoSuchLoop: NoRow, NoSuchGraces: NoGraces}
 
 
 # What is wrong in each kind, by its form or by its bounds.
@@ -69,11 +90,21 @@ WRONG = {
 }
 
 WRONG[NoSuchStart] = (None,) + WRONG[NoStanding]
+WRONG[NoSuchLoop] = ([], ()) + WRONG[NoRow]
+WRONG[NoSuchGraces] = (None,) + WRONG[NoGraces]
+WRONG[NoSteady] = (None, 3, (), {}, "a", [True], [None], [-1], [0, 0], [1, 0], [0], [10 ** 40], ["0"])
+WRONG[NoDepths] = (None, 3, (), (0,), {}, "0", [True], [-1], ["0"], [0.0], [[0]], [None] * 11 + [False])
+WRONG[NoHistory] = (None, 3, (), {}, "more", [None], ["more"], [("ask",)], [("ask", "A")], [("row", "a")],
+                    [("grace", "a", True)], [("more", 1)], [["more"]])
 
 ROW = ["a", "b", (["a", "c"], 2)]
 GRACES = {"a": 1, "b": -1}
 STANDING = [("b", 0), ("a", 1)]
 GREAT = [(["a", "b"], 201)]
+
+# What there is too much of, and how many.
+TOO_MANY = {TooMany: (GREAT, 402), TooManyTried: ([(["a", "b"], 20), "a"], 41), TooManyListed: (list("abcdefghijklm"), 13),
+            TooManyLooped: (["a"] * 9, 9), TooManyToldBack: ([None] * 11, 11)}
 
 # Of each function: what is handed in by place, what by name, and its refusals, the first one ahead,
 # each with where the wrong thing stands: at a place, or behind a name.
@@ -169,11 +200,46 @@ CALLS[clerks.reason] = ((ROW, 2, 4), NAMED, WITH_PLACE)
 CALLS[clerks.are_misses] = ((ROW, 2, [0, 1, 3]), NAMED, WITH_STANDING)
 
 
+for call in (judge_reminders.holds, judge_reminders.shows_wanted):
+    CALLS[call] = ((list("abcda"), 2, ["b", "a"], [(2, "a")]), {"graces": {"a": 1, "b": -1}}, OF_REMINDERS)
+
+FAR = [(["a", (["b", "c"], MOST)], MOST), "d"]
+CALLS[far.behind_far] = ((FAR, 2), NAMED, WITH_STANDING[:4])
+CALLS[far.misses_ahead] = ((ROW, 2, 6), NAMED, WITH_PLACE[:5])
+CALLS[far.hits_at] = ((ROW, 2, 5), NAMED, WITH_PLACE[:5])
+CALLS[far.nth_miss] = ((FAR, 2, 1), NAMED, WITH_STANDING[:2] + ((NoSuchNumber, 2),) + WITH_STANDING[2:4])
+CALLS[far.depth_at] = ((ROW, 4), {}, ((NoRow, 0), (NoPlace, 1)))
+CALLS[far.missed_far] = ((FAR,), {}, ((NoRow, 0),))
+CALLS[far.stands] = ((FAR, 2), {}, ((NoSuchLoop, 0), (NoDrawers, 1)))
+CALLS[far.depth_at_last] = ((ROW, 2), {}, ((NoSuchLoop, 0), (NoPlace, 1)))
+
+OF_LOOPS = ((NoSuchLoop, 0), (TooMany, 0), (NoDrawers, 1))
+CALLS[loops.is_steady] = ((ROW, 2, [0, 1]), {}, OF_LOOPS)
+CALLS[loops.steady_standing] = ((ROW, 2, []), {}, OF_LOOPS + ((NoSteady, 2),))
+CALLS[loops.greatest_steady] = ((ROW, 1), {}, OF_LOOPS)
+CALLS[loops.steady_from] = ((ROW, 2), {"standing": STANDING}, OF_LOOPS + ((NoStanding, "standing"),))
+CALLS[loops.are_steady] = ((ROW, [0] * 6), {}, OF_LOOPS[:2])
+# Loops of more than four hundred asks are refused ahead of the drawers: test_loops.py tells of them.
+CALLS[loops.all_steady] = ((ROW, 1), {}, ((NoSuchLoop, 0), (NoDrawers, 1), (TooManyListed, 0)))
+CALLS[loops.all_depths] = ((ROW,), {}, ((NoSuchLoop, 0), (TooManyLooped, 0)))
+
+HISTORY = [("ask", "a"), ("row", ROW), ("away", "a"), ("more",), ("grace", "b", -2)]
+CALLS[told_back.row_with] = (([None, None, 1],), {}, ((NoDepths, 0), (TooManyToldBack, 0)))
+CALLS[texts.show_row] = ((FAR,), {}, ((NoRow, 0),))
+CALLS[texts.show_standing] = ((STANDING,), {}, ())
+CALLS[texts.show_graces] = ((GRACES,), {}, ((NoSuchGraces, 0),))
+CALLS[texts.show_depths] = (([None, 0, 3],), {}, ((NoDepths, 0),))
+CALLS[texts.show_history] = ((HISTORY,), {}, ((NoHistory, 0),))
+CALLS[texts.read_row] = (("a 2*(b 3*(c))",), {}, ())
+CALLS[texts.read_standing] = (("a:0 b:1",), {}, ())
+CALLS[texts.read_graces] = (("a:0 b:-1",), {}, ())
+CALLS[texts.read_depths] = (("- - 1",), {}, ())
+CALLS[texts.read_history] = (("ask a, row (2*(b))",), {}, ())
+
+
 def wrong_of(kind, turn):
-    if kind is TooMany:
-        return GREAT
-    if kind is TooManyTried:
-        return [(["a", "b"], 20), "a"]
+    if kind in TOO_MANY:
+        return TOO_MANY[kind][0]
     return WRONG[kind][turn % len(WRONG[kind])]
 
 
@@ -200,7 +266,7 @@ class TestOrder(unittest.TestCase):
         self.assertIs(type(caught.exception), told, (call.__name__, handed, named))
         fields = {}
         if told is TooMany:
-            fields = {"many": 402 if first is TooMany else 41}
+            fields = {"many": TOO_MANY[first][1]}
         elif first is NoSuchThings:
             fields = {"thing": "A"}
         elif told in (NoThing, NoPlace):
@@ -343,6 +409,14 @@ class TestApart(unittest.TestCase):
             reminders.kept_walk: list, reminders.gaps: dict, reminders.needs: dict,
             reminders.fewest: int, reminders.lazy: list, reminders.wanted: list,
             reminders.drawers_for_few: int,
+            judge_reminders.holds: bool, judge_reminders.shows_wanted: type(None),
+            far.behind_far: tuple, far.misses_ahead: int, far.hits_at: bool, far.nth_miss: int,
+            far.depth_at: int, far.missed_far: list, far.stands: tuple, far.depth_at_last: int,
+            loops.is_steady: bool, loops.steady_standing: list, loops.greatest_steady: list,
+            loops.steady_from: tuple, loops.are_steady: bool, loops.all_steady: list, loops.all_depths: list,
+            told_back.row_with: list, texts.show_row: str, texts.show_standing: str, texts.show_graces: str,
+            texts.show_depths: str, texts.show_history: str, texts.read_row: list, texts.read_standing: list,
+            texts.read_graces: dict, texts.read_depths: list, texts.read_history: list,
         }
         self.assertEqual(set(kinds), set(CALLS))
         for call, kind in kinds.items():

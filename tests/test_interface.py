@@ -70,6 +70,46 @@ INTERFACE = {
         "lazy": "row drawers wished * graces", "wanted": "row drawers wished * graces",
         "drawers_for_few": "row wished most * graces",
     },
+    "judge_reminders": {
+        "holds": "row drawers wished thing * graces", "shows_wanted": "row drawers wished thing * graces",
+    },
+    "far": {
+        "behind_far": "row drawers * graces standing",
+        "misses_ahead": "row drawers place * graces standing",
+        "hits_at": "row drawers place * graces standing",
+        "nth_miss": "row drawers number * graces standing",
+        "depth_at": "row place", "missed_far": "row", "stands": "row drawers", "depth_at_last": "row place",
+    },
+    "loops": {
+        "is_steady": "row drawers thing", "steady_standing": "row drawers places",
+        "greatest_steady": "row drawers", "all_steady": "row drawers",
+        "steady_from": "row drawers * standing", "are_steady": "row thing", "all_depths": "row",
+    },
+    "live": {"clerk_of": "drawers history * graces standing"},
+    "told_back": {"row_with": "depths"},
+    "texts": {
+        "show_row": "row", "show_standing": "standing", "show_graces": "graces", "show_depths": "depths",
+        "show_history": "history", "read_row": "text", "read_standing": "text", "read_graces": "text",
+        "read_depths": "text", "read_history": "text",
+    },
+}
+
+# Of each class: what it is made of, and of each of its methods what this is handed.
+CLASSES = {
+    ("live", "Clerk"): ("drawers * graces standing", {
+        "ask": "thing", "ask_row": "row", "put_away": "thing", "more": "", "fewer": "", "grace": "thing by",
+        "drawers": "", "asked": "", "missed": "", "graces": "", "standing": "", "age": "thing", "back": "",
+        "again": "", "history": "", "twin": "", "__eq__": "other", "__len__": "",
+    }),
+    ("live", "Watch"): ("", {
+        "add": "name clerk", "leave": "name", "back": "", "ask": "thing", "names": "", "ask_row": "row",
+        "clerk": "name", "is_over": "one other", "overs": "", "apart": "one other row", "lacking": "one other",
+    }),
+    ("ladder", "Ladder"): ("", {
+        "ask": "thing", "put_away": "thing", "back": "", "shelf": "", "held": "drawers", "standing": "drawers",
+        "steps": "", "history": "", "missed": "drawers", "twin": "", "__eq__": "other", "__len__": "",
+    }),
+    ("desk", "Desk"): ("", {"say": "text"}),
 }
 
 
@@ -96,6 +136,16 @@ class TestInterface(unittest.TestCase):
                 function = getattr(file, name)
                 self.assertEqual(function.__module__, "missclock." + module)
                 self.assertEqual(told_of(function), words, name)
+
+    def test_classes_and_methods(self):
+        for (module, name), (made_of, methods) in CLASSES.items():
+            kind = getattr(importlib.import_module("missclock." + module), name)
+            self.assertEqual(kind.__module__, "missclock." + module)
+            self.assertEqual(kind.__bases__, (object,))
+            self.assertEqual(told_of(kind), made_of)
+            for method, words in methods.items():
+                # Each stands in the class itself; the first argument is its own object.
+                self.assertEqual(told_of(vars(kind)[method]), ("self " + words).strip(), method)
 
 
 if __name__ == "__main__":
